@@ -1,0 +1,1 @@
+"""Holeshift: what is missing, shifted past checks that come round."""
