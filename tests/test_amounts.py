@@ -254,8 +254,10 @@ class TestNumbers(AmountCase):
 
     def test_total_leaves_its_list(self):
         numbers = [Amount(1, 2), 1]
-        Amount.total(numbers)
+        found = Amount.total(numbers)
         self.assert_same(numbers, [Amount(1, 2), 1])
+        numbers.append(5)
+        self.assert_amount(found, Fraction(3, 2))
 
 
 class TestTexts(AmountCase):
