@@ -12,6 +12,11 @@ def is_int(value):
     return isinstance(value, int) and not isinstance(value, bool)
 
 
+def is_int_within(value, least, most):
+    """Whether any value is an integer from least to most."""
+    return is_int(value) and least <= value <= most
+
+
 def _is_figures(text):
     # isdigit alone would let figures of other scripts pass.
     return text.isascii() and text.isdigit() and len(text) <= MOST_FIGURES

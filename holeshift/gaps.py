@@ -132,5 +132,4 @@ class Gaps:
 
     def behind(self, shift, number):
         """The gaps behind a Shift by this amount, a number."""
-        moved = Gaps({account: shift[account] for account in shift.accounts})
-        return self + moved * number
+        return self + Gaps(shift.changes) * number

@@ -6,6 +6,10 @@ import unittest
 from holeshift import errors
 from holeshift.amounts import Amount
 from holeshift.gaps import Gaps
+from holeshift.items import Count, Match, Shift, Total
+from holeshift.linear import Dated, Linear
+from holeshift.offices import Office
+from holeshift.rows import Row
 
 ROOT = os.path.dirname(os.path.dirname(os.path.abspath(__file__)))
 PACKAGE = os.path.join(ROOT, "holeshift")
@@ -21,7 +25,19 @@ INTEGERS = [0, 1, -1, 2, 200, -7, 10 ** 29, 10 ** 60 - 1, 1 - 10 ** 60]
 def any_values():
     """Values of all kinds that the document calls any value."""
     amounts = [Amount(0), Amount(1), Amount(-1, 2), Amount(10 ** 29 + 1, 3 ** 60)]
-    return NO_INTEGERS + INTEGERS + amounts + [Gaps(), Gaps({"a": 1, "b": Amount(-1, 2)})]
+    gaps = [Gaps(), Gaps({"a": 1, "b": Amount(-1, 2)})]
+    items = [Shift({"a": 1, "b": -1}, 0), Count("a", 0), Total(["a", "b"], 1), Match(["a"], ["b"], 0)]
+    office = Office(2, "a", "b")
+    office["a"], office["c"] = items[:2]
+    others = [Linear({}), Linear({"a": 1}), Dated(), Dated(0), office, Row(office, 3, [(0, "a", 1)])]
+    return NO_INTEGERS + INTEGERS + amounts + gaps + items + others
+
+
+def not_ints(least, most=None):
+    """Any values but the integers from the least one on, to the most one if it is told."""
+    known = range(least, 10 ** 70 if most is None else most + 1)
+    found = [value for value in any_values() if type(value) is not int or value not in known]
+    return found + [least - 1, Amount(least), str(least)] + ([] if most is None else [most + 1])
 
 
 def same(one, other):

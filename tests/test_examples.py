@@ -7,7 +7,10 @@ from holeshift import errors
 from tests.helper import DOC, Case
 
 # In the document's order, as examples use what earlier ones imported and bound.
-HEADINGS = ["holeshift/amounts.py", "holeshift/gaps.py"]
+HEADINGS = [
+    "holeshift/amounts.py", "holeshift/linear.py", "holeshift/items.py", "holeshift/offices.py", "holeshift/gaps.py",
+    "holeshift/rows.py",
+]
 
 
 def section(text, heading):

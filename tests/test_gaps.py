@@ -5,6 +5,7 @@ import unittest
 from holeshift.amounts import Amount
 from holeshift.errors import BadAmount, BadGaps, BadName, BadText, NoDeed, NoDivisor
 from holeshift.gaps import Gaps
+from holeshift.items import Shift
 from tests.helper import NO_INTEGERS, Case, any_values
 
 BIG = 10 ** 30 - 1
@@ -22,30 +23,6 @@ ACCOUNTS = ["a", "b", "c", "none", "zzzzzzzz", "other"]
 
 def gap(told, account):
     return Amount.of(told.get(account, 0))
-
-
-class ShiftStandIn:
-    """What the document says that a Shift tells of its changes, as shifts are not there yet."""
-
-    def __init__(self, changes):
-        self.own = changes
-
-    @property
-    def changes(self):
-        return dict(self.own)
-
-    @property
-    def accounts(self):
-        return tuple(sorted(self.own))
-
-    def __getitem__(self, account):
-        return self.own.get(account, 0)
-
-    def __contains__(self, account):
-        return account in self.own
-
-    def __len__(self):
-        return len(self.own)
 
 
 class GapsCase(Case):
@@ -229,7 +206,7 @@ class TestOperators(GapsCase):
 
     def test_nothing_changes(self):
         one, other, number = Gaps({"b": 2, "a": Amount(-1, 2)}), Gaps({"a": Amount(1, 2), "c": 1}), Amount(-2, 3)
-        shift = ShiftStandIn({"a": -1, "b": 1})
+        shift = Shift({"a": -1, "b": 1})
         for work in (
             lambda: one + other, lambda: one - other, lambda: one * number, lambda: number * one, lambda: -one,
             lambda: one.over(number), lambda: one == other, lambda: one["a"], lambda: "a" in one, lambda: str(one),
@@ -259,10 +236,10 @@ class TestBehind(GapsCase):
         for told in TOLD:
             for number in NUMBERS:
                 wanted = {account: gap(told, account) + number * changes.get(account, 0) for account in ACCOUNTS}
-                self.assert_gaps(Gaps(told).behind(ShiftStandIn(changes), number), wanted)
+                self.assert_gaps(Gaps(told).behind(Shift(changes, 0, weight=7), number), wanted)
 
     def test_the_hole_stays(self):
-        moved = Gaps({"a": 1}).behind(shift=ShiftStandIn({"a": -1, "b": 1}), number=1)
+        moved = Gaps({"a": 1}).behind(shift=Shift({"a": -1, "b": 1}), number=1)
         self.assert_gaps(moved, {"b": 1})
         self.assert_same(moved.hole, Amount(1))
 

@@ -1,0 +1,262 @@
+"""Rows: amounts of shifts for each of some days."""
+
+from holeshift.amounts import Amount, is_int, is_int_within
+from holeshift.errors import BadAmount, BadDay, BadRow, NoKind, TooMany
+from holeshift.gaps import Gaps
+from holeshift.offices import need_accounts
+
+
+def is_amount_from_0(value):
+    """Whether any value is a number from 0 on."""
+    return Amount.is_number(value) and bool(value >= 0)
+
+
+def _days_told(office, days):
+    """The days of a row of the office; raises BadRow for any value that tells none."""
+    if days is None:
+        return office.days
+    if not is_int_within(days, 1, Row.MOST_DAYS):
+        raise BadRow("days")
+    return days
+
+
+def _need_place(office, days, day, kind):
+    """Raise BadDay(day) or NoKind(kind) for any values that are no day and no kind of a row."""
+    if not is_int_within(day, 0, days - 1):
+        raise BadDay(day)
+    if kind not in office.kinds:
+        raise NoKind(kind)
+
+
+def _need_setting(office, days, day, kind, number):
+    """Raise what setting an amount of a row raises."""
+    _need_place(office, days, day, kind)
+    if kind not in office.kinds_on(day):
+        raise BadDay(day)
+    if not is_amount_from_0(number):
+        raise BadAmount(number)
+
+
+def _amounts_told(office, days, shifts):
+    """The dict from (day, kind) to the amounts above 0 of these shifts, each set behind the other."""
+    found = {}
+    for day, kind, number in shifts:
+        _need_setting(office, days, day, kind, number)
+        found[(day, kind)] = Amount.of(number)
+    return {at: amount for at, amount in found.items() if amount != 0}
+
+
+class Row:
+    """Amounts of the kinds of an office, for each of some days. Rows change."""
+
+    MOST_DAYS = 40
+
+    def __init__(self, office, days=None, shifts=()):
+        self._office = office.twin()
+        self._days = _days_told(office, days)
+        self._amounts = _amounts_told(self._office, self._days, shifts)
+
+    def twin_office(self):
+        """A twin of the office."""
+        return self._office.twin()
+
+    @property
+    def days(self):
+        """How many days the row has."""
+        return self._days
+
+    def __getitem__(self, at):
+        day, kind = at
+        _need_place(self._office, self._days, day, kind)
+        return self._amounts.get((day, kind), Amount(0))
+
+    def __setitem__(self, at, number):
+        day, kind = at
+        _need_setting(self._office, self._days, day, kind, number)
+        if number == 0:
+            self.drop(day, kind)
+        else:
+            self._amounts[(day, kind)] = Amount.of(number)
+
+    def drop(self, day, kind):
+        """Make an amount 0; raises as reading it."""
+        _need_place(self._office, self._days, day, kind)
+        self._amounts = {at: amount for at, amount in self._amounts.items() if at != (day, kind)}
+
+    def __contains__(self, value):
+        if not isinstance(value, tuple) or len(value) != 2:
+            return False
+        day, kind = value
+        return is_int(day) and isinstance(kind, str) and (day, kind) in self._amounts
+
+    def __len__(self):
+        return len(self._amounts)
+
+    def __iter__(self):
+        raise TypeError("a row is not iterated over; take its shifts")
+
+    def _told(self):
+        """The list of the tuples (day, kind, amount) above 0, by the days, on one day by the names."""
+        places = [(day, kind) for day in range(self._days) for kind in self._office.kinds]
+        return [(day, kind, self._amounts[(day, kind)]) for day, kind in places if (day, kind) in self._amounts]
+
+    def shifts(self):
+        """Yield the tuples (day, kind, amount) above 0, by the days, on one day by the names."""
+        found = self._told()
+        for shift in found:
+            yield shift
+
+    def _weight_of(self, told):
+        """The sum of the amounts of these shifts times the weights of their kinds."""
+        return Amount.total([amount * self._office[kind].weight for _, kind, amount in told])
+
+    @property
+    def weight(self):
+        """The sum of the amounts times the weights of their kinds."""
+        return self._weight_of(self._told())
+
+    def weight_on(self, day):
+        """The weight of one day; raises BadDay(day) for any value that is no day of the row."""
+        if not is_int_within(day, 0, self._days - 1):
+            raise BadDay(day)
+        return self._weight_of([shift for shift in self._told() if shift[0] == day])
+
+    @property
+    def change(self):
+        """The Gaps that all shifts of the row add."""
+        return self._behind(Gaps(), self._told())
+
+    def _behind(self, gaps, told):
+        """The gaps behind these shifts."""
+        found = gaps
+        for _, kind, amount in told:
+            found = found.behind(self._office[kind], amount)
+        return found
+
+    def _days_behind(self, gaps):
+        """The list of the gaps behind the shifts of each day; raises NoAccount(name)."""
+        need_accounts(self._office, gaps.accounts)
+        told = self._told()
+        found = []
+        last = gaps
+        for day in range(self._days):
+            last = self._behind(last, [shift for shift in told if shift[0] == day])
+            found.append(last)
+        return found
+
+    def after(self, gaps):
+        """Yield the gaps behind the shifts of each day, if these are those ahead of day 0; raises NoAccount(name)."""
+        found = self._days_behind(gaps)
+        for behind in found:
+            yield behind
+
+    def last(self, gaps):
+        """The gaps behind the last day; raises NoAccount(name)."""
+        return self._days_behind(gaps)[-1]
+
+    def seen(self, gaps):
+        """None if the row passes from these gaps, otherwise the first (day, check, amount) that is seen."""
+        for day, behind in enumerate(self._days_behind(gaps)):
+            for name in self._office.looks_on(day):
+                amount = self._office[name].sum_of(behind)
+                if amount != 0:
+                    return (day, name, amount)
+        return None
+
+    def passes(self, gaps):
+        """Whether the row passes from these gaps; raises NoAccount(name)."""
+        return self.seen(gaps) is None
+
+    def _need_like(self, other):
+        """Raise BadRow unless the other row is one of an equal office."""
+        if not self._office == other._office:
+            raise BadRow("office")
+
+    def _need_rounds(self):
+        """Raise BadRow unless the days are whole rounds."""
+        if self._days % self._office.days != 0:
+            raise BadRow("days")
+
+    def _of(self, days, told):
+        """A row of the same office, of so many days, with these shifts; raises TooMany."""
+        if days > Row.MOST_DAYS:
+            raise TooMany("days", Row.MOST_DAYS)
+        made = Row(self._office, days)
+        made._amounts = {(day, kind): amount for day, kind, amount in told if amount != 0}
+        return made
+
+    def __add__(self, other):
+        if not isinstance(other, Row):
+            return NotImplemented
+        self._need_like(other)
+        self._need_rounds()
+        later = [(self._days + day, kind, amount) for day, kind, amount in other._told()]
+        return self._of(self._days + other._days, [*self._told(), *later])
+
+    def __iadd__(self, other):
+        return self + other
+
+    def __mul__(self, other):
+        if not is_int(other):
+            return NotImplemented
+        self._need_rounds()
+        days = self._days * other
+        # Without the bound, a great count would make a long list ahead of its error.
+        starts = range(0, min(int(days), Row.MOST_DAYS), self._days)
+        told = self._told()
+        return self._of(days, [(start + day, kind, amount) for start in starts for day, kind, amount in told])
+
+    def __rmul__(self, other):
+        # Asked of an Amount, which would ask back for ever, this is no product.
+        if not is_int(other):
+            return NotImplemented
+        return self * other
+
+    def __imul__(self, other):
+        return self * other
+
+    def scaled(self, number):
+        """A row with each amount times a number; raises BadAmount(number) for any value that is none from 0 on."""
+        if not is_amount_from_0(number):
+            raise BadAmount(number)
+        return self._of(self._days, [(day, kind, amount * number) for day, kind, amount in self._told()])
+
+    def joined(self, other):
+        """A row with the sums of the amounts; raises BadRow unless offices and days are equal."""
+        self._need_like(other)
+        if self._days != other._days:
+            raise BadRow("days")
+        added = [(day, kind, amount + self[day, kind]) for day, kind, amount in other._told()]
+        return self._of(self._days, [*self._told(), *added])
+
+    def only(self, kinds):
+        """A row with the amounts of these kinds alone; raises NoKind(value) with the first value that is none."""
+        for kind in kinds:
+            if kind not in self._office.kinds:
+                raise NoKind(kind)
+        return self._of(self._days, [shift for shift in self._told() if shift[1] in kinds])
+
+    def rounds(self):
+        """Yield the whole rounds of the row, each as a row of one round."""
+        long = self._office.days
+        told = self._told()
+        found = []
+        for start in range(0, self._days - long + 1, long):
+            inside = [(day - start, kind, amount) for day, kind, amount in told if start <= day < start + long]
+            found.append(self._of(long, inside))
+        for row in found:
+            yield row
+
+    def twin(self):
+        """A row of its own, equal to this one."""
+        return self._of(self._days, self._told())
+
+    def __eq__(self, other):
+        if not isinstance(other, Row):
+            return False
+        return self._office == other._office and self._days == other._days and self._amounts == other._amounts
+
+    @property
+    def lines(self):
+        """The tuple of the texts `DAY KIND AMOUNT` of the shifts."""
+        return tuple([f"{day} {kind} {amount}" for day, kind, amount in self._told()])
