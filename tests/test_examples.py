@@ -9,7 +9,7 @@ from tests.helper import DOC, Case
 # In the document's order, as examples use what earlier ones imported and bound.
 HEADINGS = [
     "holeshift/amounts.py", "holeshift/linear.py", "holeshift/items.py", "holeshift/offices.py", "holeshift/gaps.py",
-    "holeshift/rows.py",
+    "holeshift/rows.py", "holeshift/prices.py", "holeshift/books.py",
 ]
 
 

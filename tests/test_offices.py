@@ -264,8 +264,8 @@ class TestTwinsAndEquality(OfficeCase):
 
     def test_equals(self):
         offices = [
-            Office(1, "a"), Office(2, "a"), Office(1, "b"), Office(1, "a", "b"), ring(), wide(), ring() << 1, ring() * 2,
-            make(2, "ab", {"up": UP}), make(2, "ab", {"down": UP}), make(2, "ab", {"up": DOWN}),
+            Office(1, "a"), Office(2, "a"), Office(1, "b"), Office(1, "a", "b"), ring(), wide(), ring() << 1,
+            ring() * 2, make(2, "ab", {"up": UP}), make(2, "ab", {"down": UP}), make(2, "ab", {"up": DOWN}),
             make(3, "ab", {"up": UP}),
             make(2, "abc", {"up": UP}), make(2, "ab", {"up": Count("a", 0)}), make(2, "ab", {"up": Total(["a"], 0)}),
         ]

@@ -1,0 +1,111 @@
+"""Least costs under equations, by the simplex method in whole numbers."""
+
+from holeshift.amounts import Amount
+
+
+def _without(row, lead, column, bottom):
+    """A row times the lead's number in this column, less so much of the lead that its own number there becomes 0."""
+    times, less = lead[column], row[column]
+    if less == 0 and times == bottom:
+        return row
+    # All numbers are minors of the first rows, so nothing is left over.
+    return [(times * one - less * other) // bottom for one, other in zip(row, lead)]
+
+
+class Tableau:
+    """Equations of numbers from 0 on, all times one bottom, solved for the numbers of a basis.
+
+    Each row has the numbers of the columns, then those of one further column for each row, then its right side. The
+    further columns are made first; an answer has none of them, and they tell the multipliers of the rows.
+    """
+
+    def __init__(self, rows, right, costs):
+        self.wide = len(costs)
+        self.bottom = 1
+        self.signs = [-1 if number < 0 else 1 for number in right]
+        places = range(len(right))
+        units = [[1 if place == other else 0 for other in places] for place in places]
+        self.rows = [
+            [*[sign * number for number in row], *unit, sign * last]
+            for row, unit, sign, last in zip(rows, units, self.signs, right)
+        ]
+        self.basis = [self.wide + place for place in places]
+        apart = [-sum([row[column] for row in self.rows]) for column in range(self.wide)]
+        self.apart = [*apart, *[0 for _ in places], -sum([row[-1] for row in self.rows])]
+        self.costs = [*costs, *[0 for _ in places], 0]
+
+    def pivot(self, at, column):
+        """Take a column into the basis, in the place of the one of this row."""
+        lead = self.rows[at]
+        if lead[column] < 0:
+            lead = [-number for number in lead]
+        bottom = self.bottom
+        self.rows = [
+            lead if place == at else _without(row, lead, column, bottom) for place, row in enumerate(self.rows)
+        ]
+        self.apart = _without(self.apart, lead, column, bottom)
+        self.costs = _without(self.costs, lead, column, bottom)
+        self.bottom = lead[column]
+        self.basis[at] = column
+
+    def leaving(self, column):
+        """The row whose number first becomes 0 as the column's grows."""
+        found = None
+        for at, row in enumerate(self.rows):
+            if row[column] <= 0:
+                continue
+            if found is None:
+                found = at
+                continue
+            best = self.rows[found]
+            ahead = row[-1] * best[column] - best[-1] * row[column]
+            # The least column of several leaves, as otherwise the same bases could come round for ever.
+            if ahead < 0 or ahead == 0 and self.basis[at] < self.basis[found]:
+                found = at
+        return found
+
+    def descend(self, by_costs):
+        """Pivot until nothing lowers the costs, or else what keeps the equations from holding."""
+        while True:
+            aim = self.costs if by_costs else self.apart
+            columns = [column for column in range(self.wide) if aim[column] < 0]
+            if not columns:
+                return
+            self.pivot(self.leaving(columns[0]), columns[0])
+
+    def settle(self):
+        """Take the further columns out of the basis, where the equations are not told twice."""
+        for at in range(len(self.basis)):
+            columns = [column for column in range(self.wide) if self.rows[at][column] != 0]
+            if self.basis[at] >= self.wide and columns:
+                self.pivot(at, columns[0])
+
+    def solution(self):
+        """The number of each column."""
+        found = [Amount(0) for _ in range(self.wide)]
+        for at, column in enumerate(self.basis):
+            if column < self.wide:
+                found[column] = Amount(self.rows[at][-1], self.bottom)
+        return found
+
+    def multipliers(self, aim, own):
+        """The multiplier of each row, by a row of aims whose further columns cost this at first."""
+        further = aim[self.wide:-1]
+        return [Amount(sign * (own * self.bottom - number), self.bottom) for sign, number in zip(self.signs, further)]
+
+
+def least_costs(rows, right, costs):
+    """What solves equations by numbers from 0 on with the least costs, from 0 on, all in whole numbers.
+
+    Returns a pair: the values of the columns, and multipliers of the rows; the sums of the multipliers times the
+    numbers of each column are at most its cost, and times the right side they are the least costs. If nothing solves
+    them, the values are None, and the multipliers are such by which these sums are at most 0, and 1.
+    """
+    tableau = Tableau(rows, right, costs)
+    tableau.descend(False)
+    if tableau.apart[-1] != 0:
+        apart = Amount(-tableau.apart[-1], tableau.bottom)
+        return None, [number.over(apart) for number in tableau.multipliers(tableau.apart, 1)]
+    tableau.settle()
+    tableau.descend(True)
+    return tableau.solution(), tableau.multipliers(tableau.costs, 0)
