@@ -20,6 +20,12 @@ def _days_told(office, days):
     return days
 
 
+def _need_few_days(days):
+    """Raise TooMany for more days than a row can have."""
+    if days > Row.MOST_DAYS:
+        raise TooMany("days", Row.MOST_DAYS)
+
+
 def _need_place(office, days, day, kind):
     """Raise BadDay(day) or NoKind(kind) for any values that are no day and no kind of a row."""
     if not is_int_within(day, 0, days - 1):
@@ -178,9 +184,7 @@ class Row:
             raise BadRow("days")
 
     def _of(self, days, told):
-        """A row of the same office, of so many days, with these shifts; raises TooMany."""
-        if days > Row.MOST_DAYS:
-            raise TooMany("days", Row.MOST_DAYS)
+        """A row of the same office, of so many days, with these shifts."""
         made = Row(self._office, days)
         made._amounts = {(day, kind): amount for day, kind, amount in told if amount != 0}
         return made
@@ -190,8 +194,9 @@ class Row:
             return NotImplemented
         self._need_like(other)
         self._need_rounds()
-        later = [(self._days + day, kind, amount) for day, kind, amount in other._told()]
-        return self._of(self._days + other._days, [*self._told(), *later])
+        days = self._days + other._days
+        _need_few_days(days)
+        return self._of(days, [*self._told(), *[(self._days + day, kind, n) for day, kind, n in other._told()]])
 
     def __iadd__(self, other):
         return self + other
@@ -201,10 +206,9 @@ class Row:
             return NotImplemented
         self._need_rounds()
         days = self._days * other
-        # Without the bound, a great count would make a long list ahead of its error.
-        starts = range(0, min(int(days), Row.MOST_DAYS), self._days)
+        _need_few_days(days)
         told = self._told()
-        return self._of(days, [(start + day, kind, amount) for start in starts for day, kind, amount in told])
+        return self._of(days, [(at * self._days + day, kind, n) for at in range(other) for day, kind, n in told])
 
     def __rmul__(self, other):
         # Asked of an Amount, which would ask back for ever, this is no product.

@@ -175,6 +175,43 @@ def statements(text):
             yield f"L8, L15 line {node.lineno}: {node.id}"
 
 
+def is_plain(node):
+    """L5: whether an expression is plainly a number or a string, or a list of such."""
+    if isinstance(node, ast.Call):
+        name = ast.unparse(node.func)
+        return name in ("len", "int", "ord", "str", "repr", "range") or name == "set" and is_plain(node.args[0])
+    if isinstance(node, ast.BinOp):
+        return is_plain(node.left) and is_plain(node.right)
+    return isinstance(node, (ast.Constant, ast.JoinedStr)) or isinstance(node, ast.ListComp) and is_plain(node.elt)
+
+
+def orders(text):
+    """L5: what sorted, min and max take beside a class with an order; no sort, and reversed of plain lists alone."""
+    for node in ast.walk(ast.parse(text)):
+        if not isinstance(node, ast.Call):
+            continue
+        name = ast.unparse(node.func)
+        if name in ("sorted", "min", "max"):
+            keys = [ast.unparse(key.value) for key in node.keywords if key.arg == "key"]
+            if keys not in (["len"], ["int"], ["str"]) and not any(is_plain(part) for part in node.args):
+                yield f"L5 line {node.lineno}: {name}"
+        if name.endswith(".sort") or name == "reversed" and not isinstance(node.args[0], (ast.Call, ast.List)):
+            yield f"L5 line {node.lineno}: {name}"
+
+
+def kept(text):
+    """L23: no kept range, zip or view in a double-underscore method other than __init__; no values told by a method."""
+    tree = ast.parse(text)
+    for node in ast.walk(tree):
+        if isinstance(node, ast.FunctionDef) and node.name.startswith("__") and node.name != "__init__":
+            for part in ast.walk(node):
+                if isinstance(part, ast.Assign) and isinstance(part.value, ast.Call):
+                    if re.search(r"^(range|zip|enumerate|reversed)$|\.(items|keys|values)$", ast.unparse(part.value.func)):
+                        yield f"L23 line {part.lineno}"
+        if isinstance(node, ast.FunctionDef) and node.name in ("items", "keys", "values"):
+            yield f"L26 line {node.lineno}"
+
+
 def names(text):
     """L12, L15, L17: names of all kinds."""
     tree = ast.parse(text)
@@ -229,7 +266,9 @@ def python_warnings(text):
         yield f"L27 {warning.message}"
 
 
-CHECKS = [sizes, imports, module_level, classes, statements, names, errors_caught, strings, python_warnings]
+CHECKS = [
+    sizes, imports, module_level, classes, statements, orders, kept, names, errors_caught, strings, python_warnings,
+]
 
 
 class TestLanguage(unittest.TestCase):
@@ -280,6 +319,9 @@ class TestLanguage(unittest.TestCase):
                       "class A:\n    def __getitem__(self, at):\n        return at"],
             statements: ["x = 1 / 2", "x = 0.5", "import os", "x = any(y for y in z)", "x = y is z", "print(1)",
                          "len = 3"],
+            orders: ["sorted(xs)", "max(a, b)", "xs.sort()", "min(xs, key=abs)", "sorted(set(xs))", "reversed(xs)"],
+            kept: ["def __mul__(self, other):\n    xs = range(3)", "def __eq__(self, other):\n    xs = d.items()",
+                   "def values(self):\n    pass"],
             names: ["def type():\n    pass", "def f(max):\n    pass", "__x = 1", "law = 1"],
             errors_caught: ["try:\n    pass\nexcept TypeError:\n    pass", "try:\n    pass\nexcept:\n    pass",
                             "raise x", "raise a.b()"],
