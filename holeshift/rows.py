@@ -101,14 +101,14 @@ class Row:
     def __iter__(self):
         raise TypeError("a row is not iterated over; take its shifts")
 
-    def _told(self):
+    def _listed(self):
         """The list of the tuples (day, kind, amount) above 0, by the days, on one day by the names."""
         places = [(day, kind) for day in range(self._days) for kind in self._office.kinds]
         return [(day, kind, self._amounts[(day, kind)]) for day, kind in places if (day, kind) in self._amounts]
 
     def shifts(self):
         """Yield the tuples (day, kind, amount) above 0, by the days, on one day by the names."""
-        found = self._told()
+        found = self._listed()
         for shift in found:
             yield shift
 
@@ -119,18 +119,18 @@ class Row:
     @property
     def weight(self):
         """The sum of the amounts times the weights of their kinds."""
-        return self._weight_of(self._told())
+        return self._weight_of(self._listed())
 
     def weight_on(self, day):
         """The weight of one day; raises BadDay(day) for any value that is no day of the row."""
         if not is_int_within(day, 0, self._days - 1):
             raise BadDay(day)
-        return self._weight_of([shift for shift in self._told() if shift[0] == day])
+        return self._weight_of([shift for shift in self._listed() if shift[0] == day])
 
     @property
     def change(self):
         """The Gaps that all shifts of the row add."""
-        return self._behind(Gaps(), self._told())
+        return self._behind(Gaps(), self._listed())
 
     def _behind(self, gaps, told):
         """The gaps behind these shifts."""
@@ -142,7 +142,7 @@ class Row:
     def _days_behind(self, gaps):
         """The list of the gaps behind the shifts of each day; raises NoAccount(name)."""
         need_accounts(self._office, gaps.accounts)
-        told = self._told()
+        told = self._listed()
         found = []
         last = gaps
         for day in range(self._days):
@@ -196,7 +196,7 @@ class Row:
         self._need_rounds()
         days = self._days + other._days
         _need_few_days(days)
-        return self._of(days, [*self._told(), *[(self._days + day, kind, n) for day, kind, n in other._told()]])
+        return self._of(days, [*self._listed(), *[(self._days + day, kind, n) for day, kind, n in other._listed()]])
 
     def __iadd__(self, other):
         return self + other
@@ -207,7 +207,7 @@ class Row:
         self._need_rounds()
         days = self._days * other
         _need_few_days(days)
-        told = self._told()
+        told = self._listed()
         return self._of(days, [(at * self._days + day, kind, n) for at in range(other) for day, kind, n in told])
 
     def __rmul__(self, other):
@@ -223,27 +223,27 @@ class Row:
         """A row with each amount times a number; raises BadAmount(number) for any value that is none from 0 on."""
         if not is_amount_from_0(number):
             raise BadAmount(number)
-        return self._of(self._days, [(day, kind, amount * number) for day, kind, amount in self._told()])
+        return self._of(self._days, [(day, kind, amount * number) for day, kind, amount in self._listed()])
 
     def joined(self, other):
         """A row with the sums of the amounts; raises BadRow unless offices and days are equal."""
         self._need_like(other)
         if self._days != other._days:
             raise BadRow("days")
-        added = [(day, kind, amount + self[day, kind]) for day, kind, amount in other._told()]
-        return self._of(self._days, [*self._told(), *added])
+        added = [(day, kind, amount + self[day, kind]) for day, kind, amount in other._listed()]
+        return self._of(self._days, [*self._listed(), *added])
 
     def only(self, kinds):
         """A row with the amounts of these kinds alone; raises NoKind(value) with the first value that is none."""
         for kind in kinds:
             if kind not in self._office.kinds:
                 raise NoKind(kind)
-        return self._of(self._days, [shift for shift in self._told() if shift[1] in kinds])
+        return self._of(self._days, [shift for shift in self._listed() if shift[1] in kinds])
 
     def rounds(self):
         """Yield the whole rounds of the row, each as a row of one round."""
         long = self._office.days
-        told = self._told()
+        told = self._listed()
         found = []
         for start in range(0, self._days - long + 1, long):
             inside = [(day - start, kind, amount) for day, kind, amount in told if start <= day < start + long]
@@ -253,7 +253,7 @@ class Row:
 
     def twin(self):
         """A row of its own, equal to this one."""
-        return self._of(self._days, self._told())
+        return self._of(self._days, self._listed())
 
     def __eq__(self, other):
         if not isinstance(other, Row):
@@ -263,4 +263,4 @@ class Row:
     @property
     def lines(self):
         """The tuple of the texts `DAY KIND AMOUNT` of the shifts."""
-        return tuple([f"{day} {kind} {amount}" for day, kind, amount in self._told()])
+        return tuple([f"{day} {kind} {amount}" for day, kind, amount in self._listed()])
