@@ -54,6 +54,11 @@ class Book:
         """The gaps as they are now."""
         return self._gaps
 
+    @gaps.setter
+    def gaps(self, value):
+        # Papers have an attribute of this name; those of a book change by what is done alone.
+        raise AttributeError("the gaps of a book are not assigned")
+
     @property
     def hole(self):
         """The sum of all gaps."""

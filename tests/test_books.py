@@ -178,6 +178,12 @@ class TestMaking(BookCase):
         self.assert_book(book, Model(ring(), Gaps()))
         book.enter("up", 1)
 
+    def test_the_gaps_are_not_assigned(self):
+        book = Book(ring(), Gaps({"a": 1}))
+        with self.assertRaises(AttributeError):
+            book.gaps = Gaps()
+        self.assertTrue(book.gaps == Gaps({"a": 1}))
+
 
 class TestCalls(BookCase):
     def test_enter(self):
