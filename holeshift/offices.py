@@ -123,6 +123,11 @@ class Office:
         """The tuple of the looks, pairs (day, name of a check), by days, then by names."""
         return tuple([(day, name) for day in range(self._days) for name in self.looks_on(day)])
 
+    @looks.setter
+    def looks(self, value):
+        # Papers have an attribute of this name; those of an office are those of its checks.
+        raise AttributeError("the looks of an office are not assigned")
+
     def __contains__(self, name):
         return isinstance(name, str) and name in self._items
 

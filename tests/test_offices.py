@@ -212,6 +212,12 @@ class TestSetting(OfficeCase):
             self.assert_raises(BadDay(value), office.looks_on, value)
         self.assert_same([office.kinds_on(day=3), office.looks_on(day=3)], [("up",), ("seeb",)])
 
+    def test_properties_of_papers_are_not_assigned(self):
+        office = ring()
+        with self.assertRaises(AttributeError):
+            office.looks = ()
+        self.assertTrue(office == ring())
+
 
 class TestDays(OfficeCase):
     def test_assigned(self):
