@@ -186,10 +186,7 @@ class Match(Check):
             raise BadItem("left")
         if not _is_accounts(right) or any([account in left for account in right]):
             raise BadItem("right")
-        parts = {account: 1 for account in left}
-        for account in right:
-            parts[account] = -1
-        super().__init__(parts, days)
+        super().__init__({account: 1 if account in left else -1 for account in [*left, *right]}, days)
 
     def __call__(self, gaps):
         return self.sum_of(gaps)
