@@ -1,6 +1,6 @@
 """Exact numbers: fractions in lowest terms."""
 
-from math import gcd
+from math import gcd, lcm
 
 from holeshift.errors import BadAmount, BadText, NoDivisor
 
@@ -17,6 +17,33 @@ def is_int_within(value, least, most):
     return is_int(value) and least <= value <= most
 
 
+def shared_bottom(amounts):
+    """The least number that is a multiple of the bottoms of all these amounts."""
+    found = 1
+    for amount in amounts:
+        found = lcm(found, amount.bottom)
+    return found
+
+
+def whole_over(amount, bottom):
+    """An amount times this multiple of its bottom, an integer."""
+    return amount.top * (bottom // amount.bottom)
+
+
+def sum_of_products(pairs):
+    """The sum of amounts, each times an integer, of a list of the pairs of both."""
+    top, bottom = 0, 1
+    for amount, times in pairs:
+        # Fractions of one bottom are the rule, and quickly added.
+        if amount.bottom == bottom:
+            top = top + amount.top * times
+        else:
+            shared = lcm(bottom, amount.bottom)
+            top = top * (shared // bottom) + amount.top * times * (shared // amount.bottom)
+            bottom = shared
+    return Amount(top, bottom)
+
+
 def _is_figures(text):
     # isdigit alone would let figures of other scripts pass.
     return text.isascii() and text.isdigit() and len(text) <= MOST_FIGURES
@@ -26,14 +53,13 @@ class Amount:
     """The fraction top / bottom in lowest terms, with a bottom from 1 on. It never changes."""
 
     def __init__(self, top, bottom=1):
-        for part in (top, bottom):
-            if not is_int(part):
-                raise BadAmount(part)
+        if not is_int(top):
+            raise BadAmount(top)
+        if not is_int(bottom):
+            raise BadAmount(bottom)
         if bottom == 0:
             raise NoDivisor()
-        shared = gcd(top, bottom)
-        if bottom < 0:
-            shared = -shared
+        shared = gcd(top, bottom) if bottom > 0 else -gcd(top, bottom)
         self.top = top // shared
         self.bottom = bottom // shared
 
@@ -52,10 +78,7 @@ class Amount:
     @staticmethod
     def total(numbers):
         """The sum of a list or tuple of numbers, 0 of none."""
-        found = Amount(0)
-        for number in numbers:
-            found = found + number
-        return found
+        return sum_of_products([(Amount.of(number), 1) for number in numbers])
 
     @classmethod
     def read(cls, text):
@@ -89,10 +112,11 @@ class Amount:
         return Amount(self.top * divisor.bottom, self.bottom * divisor.top)
 
     def __add__(self, other):
-        if not Amount.is_number(other):
+        if isinstance(other, Amount):
+            return Amount(self.top * other.bottom + other.top * self.bottom, self.bottom * other.bottom)
+        if not is_int(other):
             return NotImplemented
-        number = Amount.of(other)
-        return Amount(self.top * number.bottom + number.top * self.bottom, self.bottom * number.bottom)
+        return Amount(self.top + other * self.bottom, self.bottom)
 
     def __radd__(self, other):
         return self + other
@@ -112,11 +136,12 @@ class Amount:
         return self - other
 
     def __mul__(self, other):
+        if isinstance(other, Amount):
+            return Amount(self.top * other.top, self.bottom * other.bottom)
         # Gaps know how they are multiplied, and amounts do not know of Gaps.
-        if not Amount.is_number(other):
+        if not is_int(other):
             return NotImplemented
-        number = Amount.of(other)
-        return Amount(self.top * number.top, self.bottom * number.bottom)
+        return Amount(self.top * other, self.bottom)
 
     def __rmul__(self, other):
         return self * other
@@ -157,19 +182,30 @@ class Amount:
         return bool(self.top != 0)
 
     def __eq__(self, other):
-        if not Amount.is_number(other):
-            return False
-        number = Amount.of(other)
-        return self.top == number.top and self.bottom == number.bottom
+        if isinstance(other, Amount):
+            return self.top == other.top and self.bottom == other.bottom
+        return is_int(other) and self.bottom == 1 and self.top == other
 
     def __lt__(self, other):
-        return (self - other).top < 0
+        if not Amount.is_number(other):
+            return NotImplemented
+        number = Amount.of(other)
+        return self.top * number.bottom < number.top * self.bottom
 
     def __le__(self, other):
-        return (self - other).top <= 0
+        if not Amount.is_number(other):
+            return NotImplemented
+        number = Amount.of(other)
+        return self.top * number.bottom <= number.top * self.bottom
 
     def __gt__(self, other):
-        return (self - other).top > 0
+        if not Amount.is_number(other):
+            return NotImplemented
+        number = Amount.of(other)
+        return self.top * number.bottom > number.top * self.bottom
 
     def __ge__(self, other):
-        return (self - other).top >= 0
+        if not Amount.is_number(other):
+            return NotImplemented
+        number = Amount.of(other)
+        return self.top * number.bottom >= number.top * self.bottom

@@ -135,19 +135,21 @@ class Book:
             raise BadRow("row")
         if self.today != 0:
             raise BadDay(self.today)
-        # Played in another book first, a row that is seen leaves this one as it is.
-        other = Book(self._office, self._gaps)
+        seen = row.seen(self._gaps)
+        if seen is not None:
+            day, name, amount = seen
+            raise Seen(day % self._office.days) from Looked(name, amount)
+        deeds = []
         shifts = list(row.shifts())
         for day in range(row.days):
-            for on, name, amount in shifts:
-                if on == day:
-                    other.enter(name, amount)
-            other.close()
-        self._called("play", list(other.deeds()))
-        self.day = self.day + other.day
-        self.paid = self.paid + other.paid
-        self._gaps = other.gaps
-        return other.paid
+            deeds.extend([("enter", name, amount) for on, name, amount in shifts if on == day])
+            deeds.append(("close",))
+        cost = row.weight
+        self._called("play", deeds)
+        self.day = self.day + row.days
+        self.paid = self.paid + cost
+        self._gaps = row.last(self._gaps)
+        return cost
 
     def blamed(self, name):
         """The hands whose shifts since the check last looked change what it sees; raises NoCheck(name)."""

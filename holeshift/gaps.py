@@ -1,6 +1,6 @@
 """The gaps of accounts: what the book says of each less what is there."""
 
-from holeshift.amounts import Amount
+from holeshift.amounts import Amount, sum_of_products
 from holeshift.errors import BadGaps, BadName, BadText
 from holeshift.names import is_name, need_name
 
@@ -27,16 +27,24 @@ def _read_gap(word, at):
     return gap
 
 
+def gaps_of(amounts):
+    """The Gaps of a dict from accounts, ascending ones, to Amounts."""
+    made = Gaps()
+    made._told = {account: gap for account, gap in amounts.items() if gap.top != 0}
+    return made
+
+
 class Gaps:
     """A gap for each account, 0 where none is told. Gaps never change."""
 
     def __init__(self, values=None):
         if values is None:
-            values = {}
-        if not isinstance(values, dict):
+            self._told = {}
+        elif not isinstance(values, dict):
             raise BadGaps(values)
-        told = {account: Amount.of(values[account]) for account in _ascending_names(values)}
-        self._told = {account: gap for account, gap in told.items() if gap != 0}
+        else:
+            told = {account: Amount.of(values[account]) for account in _ascending_names(values)}
+            self._told = {account: gap for account, gap in told.items() if gap.top != 0}
 
     @staticmethod
     def lone(account, number=1):
@@ -81,8 +89,10 @@ class Gaps:
         return Amount.total(list(self._told.values()))
 
     def __getitem__(self, account):
+        if account in self:
+            return self._told[account]
         need_name(account)
-        return self._told.get(account, Amount(0))
+        return Amount(0)
 
     def __iter__(self):
         # Without this, Python would ask for the gaps of 0, 1 and so on.
@@ -100,8 +110,8 @@ class Gaps:
     def __add__(self, other):
         if not isinstance(other, Gaps):
             return NotImplemented
-        accounts = self.accounts + other.accounts
-        return Gaps({account: self[account] + other[account] for account in accounts})
+        accounts = sorted(set([str(account) for account in self.accounts + other.accounts]))
+        return gaps_of({account: self[account] + other[account] for account in accounts})
 
     def __iadd__(self, other):
         return self + other
@@ -115,7 +125,7 @@ class Gaps:
     def __mul__(self, other):
         if not Amount.is_number(other):
             return NotImplemented
-        return Gaps({account: gap * other for account, gap in self._told.items()})
+        return gaps_of({account: gap * other for account, gap in self._told.items()})
 
     def __rmul__(self, other):
         return self * other
@@ -132,4 +142,8 @@ class Gaps:
 
     def behind(self, shift, number):
         """The gaps behind a Shift by this amount, a number."""
-        return self + Gaps(shift.changes) * number
+        amount = Amount.of(number)
+        accounts = sorted(set([str(account) for account in self.accounts + shift.accounts]))
+        return gaps_of({
+            account: sum_of_products([(self[account], 1), (amount, shift[account])]) for account in accounts
+        })

@@ -78,9 +78,14 @@ class Item(Linear, Dated):
         rounds = min(int(k), Dated.LAST + 2)
         return self.with_days(sorted([int(own + days * at) for at in range(rounds) for own in self._days]))
 
+    def _further(self):
+        """What the item has beside its parts and days."""
+        return ()
+
     def __eq__(self, other):
-        # Items with one text have the same class, parts, days, weight and hand.
-        return isinstance(other, Item) and str(self) == str(other)
+        if not isinstance(other, Item) or self.WORD != other.WORD or self._parts != other._parts:
+            return False
+        return self._days == other._days and self._further() == other._further()
 
     def __str__(self):
         return " ".join([self.WORD, *_words(self)])
@@ -124,6 +129,10 @@ class Shift(Item):
         """Who makes it."""
         return self._hand
 
+    def _further(self):
+        """What the item has beside its parts and days."""
+        return (self._weight, self._hand)
+
     def __mul__(self, other):
         if not is_int(other):
             return NotImplemented
@@ -145,7 +154,7 @@ class Check(Item):
 
     def moved_by(self, shift):
         """What one unit of a Shift changes of what the check sees, an integer."""
-        return sum([self[account] * shift[account] for account in shift.accounts])
+        return sum([self._parts.get(account, 0) * part for account, part in shift._parts.items()])
 
 
 class Count(Check):

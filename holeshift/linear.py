@@ -1,6 +1,6 @@
 """Sums of gaps with integer coefficients, and days of a round."""
 
-from holeshift.amounts import Amount, is_int_within
+from holeshift.amounts import is_int_within, sum_of_products
 from holeshift.errors import BadDay, BadItem
 from holeshift.names import is_name
 
@@ -59,7 +59,11 @@ class Linear:
 
     def sum_of(self, gaps):
         """The sum of all coefficients times the gaps of their accounts."""
-        return Amount.total([gaps[account] * part for account, part in self._parts.items()])
+        return sum_of_products([(gaps[account], part) for account, part in self._parts.items() if account in gaps])
+
+    def sum_in(self, numbers):
+        """The sum of all coefficients times the integers of their accounts in a dict."""
+        return sum([part * numbers[account] for account, part in self._parts.items()])
 
     def __neg__(self):
         return Linear({account: -part for account, part in self._parts.items()})

@@ -1,10 +1,10 @@
 """Looks at papers, without a search."""
 
-from holeshift.amounts import Amount, is_int_within
+from holeshift.amounts import Amount, is_int_within, sum_of_products
 from holeshift.gaps import Gaps
 from holeshift.prices import Blocked, Lasting, Limited
-from holeshift.rows import Row
-from holeshift.weights import has_form
+from holeshift.rows import Row, Walk
+from holeshift.weights import Prices, has_form
 
 
 def _is_theft(office, days, value):
@@ -17,13 +17,11 @@ def _is_theft(office, days, value):
     return Amount.is_number(number) and bool(number > 0)
 
 
-def _taken(thefts, last):
-    """What the thefts to this day, its own ones too, add to the gaps."""
-    found = Gaps()
-    for day, account, number in thefts:
-        if day <= last:
-            found = found + Gaps.lone(account, number)
-    return found
+def _moves(row, thefts):
+    """What moves the gaps on the days of a row with thefts, as a Walk takes it."""
+    taken = [(day, account, Amount.of(number), 1) for day, account, number in thefts]
+    moves = [*row.moves(), *taken]
+    return [move for day in range(row.days) for move in moves if move[0] == day] if taken else moves
 
 
 class Looker:
@@ -45,7 +43,8 @@ class Looker:
         """Whether any values are the gaps and the row of a plan."""
         if not self._are_told(gaps, row) or row.days != self._office.days or gaps.hole != 1:
             return False
-        ends = [self._office[name].sum_of(row.change) for name in self._office.checks]
+        change = row.change
+        ends = [self._office[name].sum_of(change) for name in self._office.checks]
         return row.passes(gaps) and all([end == 0 for end in ends])
 
     def bears(self, weights, rate):
@@ -62,13 +61,13 @@ class Looker:
             return None
         if not all([_is_theft(self._office, row.days, theft) for theft in thefts]):
             return None
-        if not self._passes(gaps, row, thefts):
+        walk = Walk(self._office.accounts, row.days, gaps, _moves(row, thefts))
+        if walk.seen_by(self._office) is not None:
             return None
-        last = row.last(gaps) + _taken(thefts, row.days)
-        worths = [self._worth(weights, rate, row.days, last), -self._worth(weights, rate, 0, gaps)]
-        for day, account, number in thefts:
-            worths.append(-self._worth(weights, rate, day, Gaps.lone(account, number)))
-        return Amount.total(worths)
+        made = Prices(weights, self._office)
+        last = self._worth(made, rate, row.days, walk.gaps_behind(row.days - 1))
+        taken = [self._worth(made, rate, day, Gaps.lone(account, number)) for day, account, number in thefts]
+        return last - self._worth(made, rate, 0, gaps) - Amount.total(taken)
 
     def _are_told(self, gaps, row):
         """Whether any values are gaps of accounts of the office and a row of it."""
@@ -81,26 +80,19 @@ class Looker:
         office = self._office
         if not has_form(weights, office):
             return False
+        made = Prices(weights, office)
         for day in range(office.days):
-            prices = Gaps(weights.prices(office, day))
             for kind in office.kinds_on(day):
-                if office[kind].sum_of(prices) > office[kind].weight * times:
+                shift = office[kind]
+                if shift.sum_in(made.on_day[day]) > shift.weight * times * made.bottom:
                     return False
-        first, last = weights.prices(office, 0), weights.prices(office, office.days)
+        first, last = made.on_day[0], made.on_day[-1]
         # An Amount equals nothing but a number.
-        return all([last[account] - first[account] == number for account in office.accounts])
+        return all([Amount(last[account] - first[account], made.bottom) == number for account in office.accounts])
 
-    def _passes(self, gaps, row, thefts):
-        """Whether a row passes from the gaps with these thefts."""
-        for day, behind in enumerate(list(row.after(gaps))):
-            there = behind + _taken(thefts, day)
-            if any([self._office[name].sum_of(there) != 0 for name in self._office.looks_on(day)]):
-                return False
-        return True
-
-    def _worth(self, weights, rate, day, gaps):
-        """The sum of the gaps times the prices ahead of the looks of a day of a row, by weights that bear the rate."""
+    def _worth(self, made, rate, day, gaps):
+        """The sum of the gaps times the prices of a day of a row, by weights that bear the rate."""
+        price = made.on_day[day % self._office.days]
         # The prices of all accounts grow by the rate in each round.
-        prices = weights.prices(self._office, day % self._office.days)
-        grown = rate * (day // self._office.days)
-        return Amount.total([gaps[account] * (prices[account] + grown) for account in self._office.accounts])
+        grown = gaps.hole * rate * (day // self._office.days)
+        return grown + sum_of_products([(gaps[account], top) for account, top in price.items()]).over(made.bottom)

@@ -2,7 +2,6 @@
 
 from holeshift.errors import BadName, Clash
 
-LETTERS = "abcdefghijklmnopqrstuvwxyz"
 MOST_LETTERS = 8
 
 
@@ -10,7 +9,8 @@ def is_name(value):
     """Whether any value is a string of 1 to 8 letters from a to z."""
     if not isinstance(value, str) or not 1 <= len(value) <= MOST_LETTERS:
         return False
-    return all([letter in LETTERS for letter in value])
+    # Letters of other scripts can be lower ones, too.
+    return value.isascii() and value.isalpha() and value.islower()
 
 
 def need_name(value):

@@ -21,6 +21,12 @@ def _need_round(days):
         raise BadOffice("days")
 
 
+def _need_day(day):
+    """Raise BadDay for any value that is no day of a row."""
+    if not is_int(day) or day < 0:
+        raise BadDay(day)
+
+
 def _ascending_accounts(accounts):
     """The accounts of an office, ascending; raises as Office."""
     for account in accounts:
@@ -32,31 +38,41 @@ def _ascending_accounts(accounts):
     return tuple(sorted([str(account) for account in accounts]))
 
 
-def _need_few(items, days):
-    """Raise TooMany if an office with these items and so many days had too many of something."""
-    kinds = [item for item in items.values() if isinstance(item, Shift)]
-    checks = [item for item in items.values() if isinstance(item, Check)]
-    shifts = sum([days if kind.is_daily else len(kind.days) for kind in kinds])
-    looks = sum([len(check.days) for check in checks])
+class Arranged:
+    """Items under ascending names, and which of them fall on each day of a round of so many days. It never changes."""
+
+    def __init__(self, days, items):
+        ascending = sorted([str(name) for name in items])
+        self.by_name = {name: items[name] for name in ascending}
+        self.all_kinds = tuple([name for name in ascending if isinstance(items[name], Shift)])
+        self.all_checks = tuple([name for name in ascending if isinstance(items[name], Check)])
+        self.kinds_by_day = [
+            tuple([name for name in self.all_kinds if items[name].falls_on(day)]) for day in range(days)
+        ]
+        self.looks_by_day = [
+            tuple([name for name in self.all_checks if items[name].falls_on(day)]) for day in range(days)
+        ]
+
+
+def _arrange(days, items):
+    """These items arranged for an office with a round of so many days; raises TooMany if there are too many."""
+    made = Arranged(days, items)
+    shifts = sum([len(names) for names in made.kinds_by_day])
+    looks = sum([len(names) for names in made.looks_by_day])
     for what, many, most in (
-        ("kinds", len(kinds), Office.KINDS), ("checks", len(checks), Office.CHECKS),
+        ("kinds", len(made.all_kinds), Office.KINDS), ("checks", len(made.all_checks), Office.CHECKS),
         ("shifts", shifts, Office.SHIFTS), ("looks", looks, Office.LOOKS),
     ):
         if many > most:
             raise TooMany(what, most)
+    return made
 
 
 def _office_of(days, accounts, items):
     """An office with these items; raises TooMany."""
-    _need_few(items, days)
     made = Office(days, *accounts)
-    made._items = _ascending(items)
+    made._held = _arrange(days, items)
     return made
-
-
-def _ascending(items):
-    """A dict of these items, ascending by their names."""
-    return {name: items[name] for name in sorted([str(name) for name in items])}
 
 
 class Office:
@@ -73,7 +89,7 @@ class Office:
         _need_round(days)
         self._days = days
         self._accounts = _ascending_accounts(accounts)
-        self._items = {}
+        self._held = Arranged(days, {})
 
     @property
     def days(self):
@@ -88,9 +104,9 @@ class Office:
         """Give the round so many days; raises BadOffice, InUse, TooMany."""
         _need_round(days)
         for day in range(days, Office.DAYS):
-            if any([day in item.days for item in self._items.values()]):
+            if any([day in item.days for item in self._held.by_name.values()]):
                 raise InUse(day)
-        _need_few(self._items, days)
+        self._held = _arrange(days, self._held.by_name)
         self._days = days
 
     @property
@@ -101,27 +117,27 @@ class Office:
     @property
     def names(self):
         """The ascending tuple of the names of all items."""
-        return tuple(self._items)
+        return tuple(self._held.by_name)
 
     @property
     def kinds(self):
         """The ascending tuple of the names of the kinds."""
-        return tuple([name for name, item in self._items.items() if isinstance(item, Shift)])
+        return self._held.all_kinds
 
     @property
     def checks(self):
         """The ascending tuple of the names of the checks."""
-        return tuple([name for name, item in self._items.items() if isinstance(item, Check)])
+        return self._held.all_checks
 
     @property
     def hands(self):
         """The ascending tuple of the hands of the kinds."""
-        return tuple(sorted(set([str(item.hand) for item in self._items.values() if isinstance(item, Shift)])))
+        return tuple(sorted(set([str(self._held.by_name[name].hand) for name in self.kinds])))
 
     @property
     def looks(self):
         """The tuple of the looks, pairs (day, name of a check), by days, then by names."""
-        return tuple([(day, name) for day in range(self._days) for name in self.looks_on(day)])
+        return tuple([(day, name) for day, names in enumerate(self._held.looks_by_day) for name in names])
 
     @looks.setter
     def looks(self, value):
@@ -129,10 +145,10 @@ class Office:
         raise AttributeError("the looks of an office are not assigned")
 
     def __contains__(self, name):
-        return isinstance(name, str) and name in self._items
+        return isinstance(name, str) and name in self._held.by_name
 
     def __len__(self):
-        return len(self._items)
+        return len(self._held.by_name)
 
     def __iter__(self):
         # Without this, Python would ask for the items of 0, 1 and so on.
@@ -141,7 +157,7 @@ class Office:
     def __getitem__(self, name):
         if name not in self:
             raise NoItem(name)
-        return self._items[name]
+        return self._held.by_name[name]
 
     def __setitem__(self, name, item):
         need_name(name)
@@ -151,38 +167,38 @@ class Office:
         for day in item.days:
             if day >= self._days:
                 raise BadDay(day)
-        items = {**self._items, name: item}
-        _need_few(items, self._days)
-        self._items = _ascending(items)
+        self._held = _arrange(self._days, {**self._held.by_name, name: item})
 
     def drop(self, name):
         """Take the item of this name out; raises NoItem(name) for any value that is none."""
         if name not in self:
             raise NoItem(name)
-        self._items = {kept: item for kept, item in self._items.items() if kept != name}
-
-    def _names_on(self, day, names):
-        """Which of these items fall on the day of the round of a day of a row."""
-        if not is_int(day) or day < 0:
-            raise BadDay(day)
-        return tuple([name for name in names if self._items[name].falls_on(day % self._days)])
+        kept = {own: item for own, item in self._held.by_name.items() if own != name}
+        self._held = _arrange(self._days, kept)
 
     def kinds_on(self, day):
         """The ascending tuple of the kinds that can be made on a day of a row; raises BadDay(day)."""
-        return self._names_on(day, self.kinds)
+        _need_day(day)
+        return self._held.kinds_by_day[day % self._days]
 
     def looks_on(self, day):
         """The ascending tuple of the checks that look on a day of a row; raises BadDay(day)."""
-        return self._names_on(day, self.checks)
+        _need_day(day)
+        return self._held.looks_by_day[day % self._days]
 
     def twin(self):
         """An equal office that goes its own way."""
-        return _office_of(self._days, self._accounts, self._items)
+        accounts = self._accounts
+        made = Office(self._days, *accounts)
+        made._held = self._held
+        return made
 
     def __eq__(self, other):
         if not isinstance(other, Office):
             return False
-        return self._days == other._days and self._accounts == other._accounts and self._items == other._items
+        if self._days != other._days or self._accounts != other._accounts:
+            return False
+        return self._held.by_name == other._held.by_name
 
     def __or__(self, other):
         if not isinstance(other, Office):
@@ -191,10 +207,10 @@ class Office:
             raise Unlike("days")
         if self._accounts != other._accounts:
             raise Unlike("accounts")
-        for name, item in self._items.items():
+        for name, item in self._held.by_name.items():
             if name in other and not item == other[name]:
                 raise Clash(name)
-        return _office_of(self._days, self._accounts, {**self._items, **other._items})
+        return _office_of(self._days, self._accounts, {**self._held.by_name, **other._held.by_name})
 
     def __ior__(self, other):
         return self | other
@@ -202,7 +218,7 @@ class Office:
     def __lshift__(self, other):
         if not is_int(other):
             return NotImplemented
-        items = {name: item.begun_at(other, self._days) for name, item in self._items.items()}
+        items = {name: item.begun_at(other, self._days) for name, item in self._held.by_name.items()}
         return _office_of(self._days, self._accounts, items)
 
     def __mul__(self, other):
@@ -210,26 +226,26 @@ class Office:
             raise BadOffice("times")
         if self._days * other > Office.DAYS:
             raise TooMany("days", Office.DAYS)
-        items = {name: item.repeated(other, self._days) for name, item in self._items.items()}
+        items = {name: item.repeated(other, self._days) for name, item in self._held.by_name.items()}
         return _office_of(self._days * other, self._accounts, items)
 
     def renamed(self, names):
         """The office with other accounts, by a dict from names to names; raises BadName(value), then Clash(name)."""
         found = new_names(self._accounts, names)
-        items = {name: item.renamed(found) for name, item in self._items.items()}
+        items = {name: item.renamed(found) for name, item in self._held.by_name.items()}
         return _office_of(self._days, list(found.values()), items)
 
     def with_hands(self, *hands):
         """The office with the kinds of these hands alone, any values, and all checks."""
-        return self._with_kinds([name for name in self.kinds if self._items[name].hand in hands])
+        return self._with_kinds([name for name in self.kinds if self._held.by_name[name].hand in hands])
 
     def without_hands(self, *hands):
         """The office without the kinds of these hands, any values."""
-        return self._with_kinds([name for name in self.kinds if self._items[name].hand not in hands])
+        return self._with_kinds([name for name in self.kinds if self._held.by_name[name].hand not in hands])
 
     def _with_kinds(self, kinds):
         """The office with these of its kinds alone, and all checks."""
-        items = {name: item for name, item in self._items.items() if name in kinds or isinstance(item, Check)}
+        items = {name: item for name, item in self._held.by_name.items() if name in kinds or isinstance(item, Check)}
         return _office_of(self._days, self._accounts, items)
 
     def _is_look(self, value):
@@ -237,14 +253,14 @@ class Office:
         if not isinstance(value, tuple) or len(value) != 2:
             return False
         day, name = value
-        return is_int_within(day, 0, self._days - 1) and name in self and isinstance(self._items[name], Check)
+        return is_int_within(day, 0, self._days - 1) and name in self and isinstance(self._held.by_name[name], Check)
 
     def with_looks(self, *looks):
         """The office with these further looks; raises BadLook(at) with the first that is none, then TooMany."""
         for at, look in enumerate(looks):
             if not self._is_look(look):
                 raise BadLook(at)
-        items = dict(self._items)
+        items = dict(self._held.by_name)
         for day, name in looks:
             check = items[name]
             items[name] = check.with_days([*check.days, day])

@@ -1,8 +1,8 @@
 """Rows: amounts of shifts for each of some days."""
 
-from holeshift.amounts import Amount, is_int, is_int_within
+from holeshift.amounts import Amount, is_int, is_int_within, shared_bottom, sum_of_products, whole_over
 from holeshift.errors import BadAmount, BadDay, BadRow, NoKind, TooMany
-from holeshift.gaps import Gaps
+from holeshift.gaps import gaps_of
 from holeshift.offices import need_accounts
 
 
@@ -50,6 +50,41 @@ def _amounts_told(office, days, shifts):
         _need_setting(office, days, day, kind, number)
         found[(day, kind)] = Amount.of(number)
     return {at: amount for at, amount in found.items() if amount != 0}
+
+
+class Walk:
+    """The gaps of some accounts behind each of so many days, as integers over one bottom.
+
+    The moves are tuples (day, account, amount, integer), ascending by their days: the amount times the integer is
+    added to the gap of the account on this day.
+    """
+
+    def __init__(self, accounts, days, gaps, moves):
+        first = {account: gaps[account] for account in accounts}
+        amounts = [*list(first.values()), *[amount for _, _, amount, _ in moves]]
+        self.bottom = shared_bottom(amounts)
+        tops = {account: whole_over(gap, self.bottom) for account, gap in first.items()}
+        self.behind_day = []
+        at = 0
+        for day in range(days):
+            while at < len(moves) and moves[at][0] == day:
+                _, account, amount, times = moves[at]
+                tops[account] = tops[account] + whole_over(amount, self.bottom) * times
+                at = at + 1
+            self.behind_day.append({account: top for account, top in tops.items()})
+
+    def gaps_behind(self, day):
+        """The Gaps behind a day."""
+        return gaps_of({account: Amount(top, self.bottom) for account, top in self.behind_day[day].items()})
+
+    def seen_by(self, office):
+        """None if all looks of an office see 0, otherwise the first (day, check, amount) that is seen."""
+        for day, tops in enumerate(self.behind_day):
+            for name in office.looks_on(day):
+                top = office[name].sum_in(tops)
+                if top != 0:
+                    return (day, name, Amount(top, self.bottom))
+        return None
 
 
 class Row:
@@ -103,7 +138,7 @@ class Row:
 
     def _listed(self):
         """The list of the tuples (day, kind, amount) above 0, by the days, on one day by the names."""
-        places = [(day, kind) for day in range(self._days) for kind in self._office.kinds]
+        places = [(day, kind) for day in range(self._days) for kind in self._office.kinds_on(day)]
         return [(day, kind, self._amounts[(day, kind)]) for day, kind in places if (day, kind) in self._amounts]
 
     def shifts(self):
@@ -114,12 +149,17 @@ class Row:
 
     def _weight_of(self, told):
         """The sum of the amounts of these shifts times the weights of their kinds."""
-        return Amount.total([amount * self._office[kind].weight for _, kind, amount in told])
+        return sum_of_products([(amount, self._office[kind].weight) for _, kind, amount in told])
 
     @property
     def weight(self):
         """The sum of the amounts times the weights of their kinds."""
         return self._weight_of(self._listed())
+
+    @weight.setter
+    def weight(self, value):
+        # Papers have an attribute of this name; that of a row is what its amounts cost.
+        raise AttributeError("the weight of a row is not assigned")
 
     def weight_on(self, day):
         """The weight of one day; raises BadDay(day) for any value that is no day of the row."""
@@ -127,47 +167,40 @@ class Row:
             raise BadDay(day)
         return self._weight_of([shift for shift in self._listed() if shift[0] == day])
 
+    def moves(self):
+        """The list of the tuples (day, account, amount, integer): the amount times the integer is added to its gap."""
+        told = [(day, self._office[kind].changes, amount) for day, kind, amount in self._listed()]
+        return [(day, account, amount, part) for day, changes, amount in told for account, part in changes.items()]
+
     @property
     def change(self):
         """The Gaps that all shifts of the row add."""
-        return self._behind(Gaps(), self._listed())
+        moved = [(account, amount, part) for _, account, amount, part in self.moves()]
+        return gaps_of({
+            account: sum_of_products([(amount, part) for name, amount, part in moved if name == account])
+            for account in self._office.accounts
+        })
 
-    def _behind(self, gaps, told):
-        """The gaps behind these shifts."""
-        found = gaps
-        for _, kind, amount in told:
-            found = found.behind(self._office[kind], amount)
-        return found
-
-    def _days_behind(self, gaps):
-        """The list of the gaps behind the shifts of each day; raises NoAccount(name)."""
+    def _walk(self, gaps):
+        """The walk from these gaps through the days of the row; raises NoAccount(name)."""
         need_accounts(self._office, gaps.accounts)
-        told = self._listed()
-        found = []
-        last = gaps
-        for day in range(self._days):
-            last = self._behind(last, [shift for shift in told if shift[0] == day])
-            found.append(last)
-        return found
+        return Walk(self._office.accounts, self._days, gaps, self.moves())
 
     def after(self, gaps):
         """Yield the gaps behind the shifts of each day, if these are those ahead of day 0; raises NoAccount(name)."""
-        found = self._days_behind(gaps)
+        walk = self._walk(gaps)
+        found = [walk.gaps_behind(day) for day in range(self._days)]
         for behind in found:
             yield behind
 
     def last(self, gaps):
         """The gaps behind the last day; raises NoAccount(name)."""
-        return self._days_behind(gaps)[-1]
+        need_accounts(self._office, gaps.accounts)
+        return gaps + self.change
 
     def seen(self, gaps):
         """None if the row passes from these gaps, otherwise the first (day, check, amount) that is seen."""
-        for day, behind in enumerate(self._days_behind(gaps)):
-            for name in self._office.looks_on(day):
-                amount = self._office[name].sum_of(behind)
-                if amount != 0:
-                    return (day, name, amount)
-        return None
+        return self._walk(gaps).seen_by(self._office)
 
     def passes(self, gaps):
         """Whether the row passes from these gaps; raises NoAccount(name)."""

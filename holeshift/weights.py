@@ -1,6 +1,6 @@
 """Weights of checks and looks, and the prices of accounts that they make."""
 
-from holeshift.amounts import Amount, is_int, is_int_within
+from holeshift.amounts import Amount, is_int, is_int_within, shared_bottom, whole_over
 from holeshift.errors import BadDay
 
 
@@ -30,6 +30,29 @@ def has_form(weights, office):
     return tells_all(weights.ends, office.checks) and tells_all(weights.looks, office.looks)
 
 
+class Prices:
+    """The prices that weights of the form told make ahead of each day of the first round, and behind it.
+
+    They are integers over one bottom, by days, in dicts from all accounts.
+    """
+
+    def __init__(self, weights, office):
+        self.bottom = shared_bottom([number for _, number in weights.ends + weights.looks])
+        price = {account: 0 for account in office.accounts}
+        for name, number in weights.ends:
+            price = self._more(price, office[name], whole_over(number, self.bottom))
+        self.on_day = [price]
+        for day in range(office.days):
+            for look, number in weights.looks:
+                if look[0] == day:
+                    price = self._more(price, office[look[1]], -whole_over(number, self.bottom))
+            self.on_day.append(price)
+
+    def _more(self, price, check, number):
+        """The prices of a dict with so many times the coefficients of a check more."""
+        return {account: top + number * check[account] for account, top in price.items()}
+
+
 class Weights:
     """A paper: a number for each check of an office, its end, and one for each look."""
 
@@ -41,13 +64,8 @@ class Weights:
         """A dict from the accounts to their prices ahead of the looks of a day of the first round."""
         if not is_int_within(day, 0, office.days):
             raise BadDay(day)
-        terms = [(office[name], end) for name, end in self.ends]
-        for look, worth in self.looks:
-            if look[0] < day:
-                terms.append((office[look[1]], -worth))
-        return {
-            account: Amount.total([worth * check[account] for check, worth in terms]) for account in office.accounts
-        }
+        made = Prices(self, office)
+        return {account: Amount(top, made.bottom) for account, top in made.on_day[day].items()}
 
     def worth(self, office, gaps):
         """The sum of the ends times what their checks see."""
