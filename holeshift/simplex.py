@@ -64,14 +64,27 @@ class Tableau:
                 found = at
         return found
 
+    def entering(self, aim, careful):
+        """The column that lowers an aim the most for one unit, or the first that does; None if there is none."""
+        found = None
+        for column in range(self.wide):
+            if aim[column] < 0 and (found is None or aim[column] < aim[found]):
+                found = column
+                if careful:
+                    break
+        return found
+
     def descend(self, by_costs):
         """Pivot until nothing lowers the costs, or else what keeps the equations from holding."""
+        idle = 0
         while True:
-            aim = self.costs if by_costs else self.apart
-            columns = [column for column in range(self.wide) if aim[column] < 0]
-            if not columns:
+            # While pivots change no number, the first column is taken, so that no basis comes round for ever.
+            column = self.entering(self.costs if by_costs else self.apart, idle > len(self.rows))
+            if column is None:
                 return
-            self.pivot(self.leaving(columns[0]), columns[0])
+            at = self.leaving(column)
+            idle = idle + 1 if self.rows[at][-1] == 0 else 0
+            self.pivot(at, column)
 
     def settle(self):
         """Take the further columns out of the basis, where the equations are not told twice."""
