@@ -4,6 +4,7 @@ from holeshift.amounts import is_int, is_int_within
 from holeshift.errors import BadItem, BadText
 from holeshift.linear import Dated, Linear, ascending_days, wrong_part
 from holeshift.names import is_name, new_names
+from holeshift.words import as_name, need_end, read_word
 
 MOST_ACCOUNTS = 5
 MOST_WEIGHT = 100
@@ -124,6 +125,11 @@ class Shift(Item):
         """What one unit costs."""
         return self._weight
 
+    @weight.setter
+    def weight(self, value):
+        # Papers have an attribute of this name; items never change.
+        raise AttributeError("the weight of a shift is not assigned")
+
     @property
     def hand(self):
         """Who makes it."""
@@ -243,59 +249,40 @@ def _read_weight(word):
     return numbers.get(word)
 
 
-def _read_hand(word):
-    """The hand that a word tells, or None."""
-    return word if is_name(word) else None
-
-
-def _read_word(words, at, reading):
-    """What a reading finds in the word at this index; raises BadText(0, at) if it is missing or cannot stand."""
-    found = reading(words[at]) if at < len(words) else None
-    if found is None:
-        raise BadText(0, at)
-    return found
-
-
-def _need_end(words, at):
-    """Raise BadText(0, at) for a word behind the last one."""
-    if len(words) > at:
-        raise BadText(0, at)
-
-
 def _read_shift(words):
     """The Shift with these words."""
-    changes = _read_word(words, 1, _read_changes)
-    days = _read_word(words, 2, _read_days)
-    weight = _read_word(words, 3, _read_weight)
-    hand = _read_word(words, 4, _read_hand)
-    _need_end(words, 5)
+    changes = read_word(words, 1, _read_changes)
+    days = read_word(words, 2, _read_days)
+    weight = read_word(words, 3, _read_weight)
+    hand = read_word(words, 4, as_name)
+    need_end(words, 5)
     return Shift(changes, *days, weight=weight, hand=hand)
 
 
 def _read_match(words):
     """The Match with these words."""
-    left = _read_word(words, 1, _read_accounts)
-    right = _read_word(words, 2, _read_accounts)
+    left = read_word(words, 1, _read_accounts)
+    right = read_word(words, 2, _read_accounts)
     if any([account in left for account in right]):
         raise BadText(0, 2)
-    days = _read_word(words, 3, _read_some_days)
-    _need_end(words, 4)
+    days = read_word(words, 3, _read_some_days)
+    need_end(words, 4)
     return Match(left, right, *days)
 
 
 def _read_count(words):
     """The Count with these words."""
-    account = _read_word(words, 1, _read_hand)
-    days = _read_word(words, 2, _read_some_days)
-    _need_end(words, 3)
+    account = read_word(words, 1, as_name)
+    days = read_word(words, 2, _read_some_days)
+    need_end(words, 3)
     return Count(account, *days)
 
 
 def _read_total(words):
     """The Total with these words."""
-    accounts = _read_word(words, 1, _read_accounts)
-    days = _read_word(words, 2, _read_some_days)
-    _need_end(words, 3)
+    accounts = read_word(words, 1, _read_accounts)
+    days = read_word(words, 2, _read_some_days)
+    need_end(words, 3)
     return Total(accounts, *days)
 
 

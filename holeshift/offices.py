@@ -134,6 +134,11 @@ class Office:
         """The ascending tuple of the hands of the kinds."""
         return tuple(sorted(set([str(self._held.by_name[name].hand) for name in self.kinds])))
 
+    @hands.setter
+    def hands(self, value):
+        # Papers have attributes of these names; those of an office are those of its items.
+        raise AttributeError("the hands of an office are not assigned")
+
     @property
     def looks(self):
         """The tuple of the looks, pairs (day, name of a check), by days, then by names."""
@@ -141,7 +146,6 @@ class Office:
 
     @looks.setter
     def looks(self, value):
-        # Papers have an attribute of this name; those of an office are those of its checks.
         raise AttributeError("the looks of an office are not assigned")
 
     def __contains__(self, name):
@@ -248,7 +252,7 @@ class Office:
         items = {name: item for name, item in self._held.by_name.items() if name in kinds or isinstance(item, Check)}
         return _office_of(self._days, self._accounts, items)
 
-    def _is_look(self, value):
+    def can_look(self, value):
         """Whether any value is a tuple of a day of the round and a name of a check."""
         if not isinstance(value, tuple) or len(value) != 2:
             return False
@@ -258,7 +262,7 @@ class Office:
     def with_looks(self, *looks):
         """The office with these further looks; raises BadLook(at) with the first that is none, then TooMany."""
         for at, look in enumerate(looks):
-            if not self._is_look(look):
+            if not self.can_look(look):
                 raise BadLook(at)
         items = dict(self._held.by_name)
         for day, name in looks:

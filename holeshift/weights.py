@@ -4,7 +4,7 @@ from holeshift.amounts import Amount, is_int, is_int_within, shared_bottom, whol
 from holeshift.errors import BadDay
 
 
-def _is_key(value, key):
+def is_key(value, key):
     """Whether any value is this key, kinds and all: a name, or a pair of a day and a name."""
     if not isinstance(key, tuple):
         return value == key
@@ -18,7 +18,7 @@ def tells_all(value, keys):
     for pair, key in zip(value, keys):
         if not isinstance(pair, tuple) or len(pair) != 2:
             return False
-        if not _is_key(pair[0], key) or not isinstance(pair[1], Amount):
+        if not is_key(pair[0], key) or not isinstance(pair[1], Amount):
             return False
     return True
 

@@ -7,6 +7,10 @@ from holeshift.amounts import Amount
 from holeshift.gaps import Gaps
 from holeshift.items import Count, Match, Shift, Total
 from holeshift.offices import Office
+from holeshift.prices import Blocked, Lasting, Limited
+from holeshift.rows import Row
+from holeshift.weights import Weights
+from tests.helper import same
 
 
 def fraction(number):
@@ -120,6 +124,123 @@ def has_blind_place(office):
             rows = [[n - other[at] / row[at] * m for n, m in zip(other, row)] for other in rows]
             ones = [n - ones[at] / row[at] * m for n, m in zip(ones, row)]
     return any(ones)
+
+
+def pinned_places(office, hole):
+    """For each day of the round of an office of two accounts a and b what the gap of a must be, of a hole above 0.
+
+    None stands for any gap. Returns None if the looks of some day let no gap be.
+    """
+    found = []
+    for day in range(office.days):
+        wanted = set()
+        for name in office.checks:
+            check = office[name]
+            if day in check.days:
+                # The check sees x times its coefficient of a and (hole - x) times that of b.
+                a, b = check["a"], check["b"]
+                wanted.add(Fraction(-b * hole, a - b) if a != b else None)
+        if None in wanted or len(wanted) > 1:
+            return None
+        found.append(min(wanted) if wanted else None)
+    return found
+
+
+def cheapest(office, days, sign):
+    """What one unit costs at least that raises or lowers the gap of a, on one of these days; None if none can."""
+    costs = [
+        Fraction(office[kind].weight, abs(office[kind]["a"]))
+        for kind in office.kinds for day in days
+        if office[kind]["a"] * sign > 0 and (not office[kind].days or day % office.days in office[kind].days)
+    ]
+    return min(costs, default=None)
+
+
+def moving_cost(office, days, change):
+    """What it costs at least to change the gap of a so much on these days; None if it cannot be done."""
+    if change == 0:
+        return Fraction(0)
+    cost = cheapest(office, days, change)
+    return None if cost is None else abs(change) * cost
+
+
+def rate_of_two(office):
+    """The rate of an office of the accounts a and b, by moving from one day that pins the gaps to the next one.
+
+    None if there is no plan.
+    """
+    places = pinned_places(office, 1)
+    if places is None:
+        return None
+    at = [day for day in range(office.days) if places[day] is not None]
+    total = Fraction(0)
+    for here, there in zip(at, at[1:] + [at[0] + office.days] if at else []):
+        change = places[there % office.days] - places[here]
+        cost = moving_cost(office, range(here + 1, there + 1), change)
+        if cost is None:
+            return None
+        total += cost
+    return total
+
+
+def holding_cost_of_two(office, gaps, day, days):
+    """The least weight of a row of so many days that passes, in an office of the accounts a and b; None if none does.
+
+    The gaps are a dict of fractions, those ahead of this day of the round.
+    """
+    hole, at, total, since = gaps["a"] + gaps["b"], gaps["a"], Fraction(0), day
+    for now in range(day, day + days):
+        checks = [office[name] for name in office.checks if now % office.days in office[name].days]
+        if not checks:
+            continue
+        wanted = {Fraction(-check["b"] * hole, check["a"] - check["b"]) for check in checks if check["a"] != check["b"]}
+        if hole and any(check["a"] == check["b"] for check in checks) or len(wanted) > 1:
+            return None
+        if not wanted:
+            continue
+        there = wanted.pop()
+        cost = moving_cost(office, range(since, now + 1), there - at)
+        if cost is None:
+            return None
+        total, at, since = total + cost, there, now + 1
+    return total
+
+
+def is_pairs(value, keys):
+    """Whether any value is the tuple of the pairs of these keys with Amounts, kinds and all."""
+    if type(value) is not tuple or not all(type(pair) is tuple and len(pair) == 2 for pair in value):
+        return False
+    return same([key for key, _ in value], list(keys)) and all(type(number) is Amount for _, number in value)
+
+
+def is_told_weights(office, value):
+    """Whether any value is Weights of the form of [8]."""
+    return type(value) is Weights and is_pairs(value.ends, office.checks) and is_pairs(value.looks, office.looks)
+
+
+def is_told_gaps(office, value):
+    return type(value) is Gaps and all(name in office.accounts for name in value.accounts)
+
+
+def shows_plan(office, answer, bound):
+    """Whether any value is an answer that shows a plan below a bound, as told under holeshift/hands.py."""
+    if type(answer) is not Lasting or not is_told_gaps(office, answer.gaps) or type(answer.row) is not Row:
+        return False
+    if not answer.row.twin_office() == office or not is_plan(office, answer.gaps, answer.row):
+        return False
+    return bound is None or paid(office, answer.row) < fraction(bound)
+
+
+def shows_none(office, answer, bound):
+    """Whether any value is an answer that shows no plan below a bound, as told under holeshift/hands.py."""
+    if type(answer) not in (Lasting, Limited, Blocked) or not is_told_weights(office, answer.weights):
+        return False
+    if type(answer) is Lasting:
+        if bound is None or not Amount.is_number(answer.rate) or fraction(answer.rate) < fraction(bound):
+            return False
+        return holds(office, answer.weights, answer.rate, 1)
+    zero = all(end == 0 for _, end in answer.weights.ends)
+    return holds(office, answer.weights, 1, 0) and (zero or type(answer) is Limited)
 
 
 def ring():

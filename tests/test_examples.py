@@ -9,7 +9,9 @@ from tests.helper import DOC, Case
 # In the document's order, as examples use what earlier ones imported and bound.
 HEADINGS = [
     "holeshift/amounts.py", "holeshift/linear.py", "holeshift/items.py", "holeshift/offices.py", "holeshift/gaps.py",
-    "holeshift/rows.py", "holeshift/prices.py", "holeshift/books.py",
+    "holeshift/rows.py", "holeshift/prices.py", "holeshift/books.py", "holeshift/blinds.py", "holeshift/hands.py",
+    "holeshift/menus.py", "holeshift/holding.py", "holeshift/compare.py", "holeshift/texts.py, holeshift/reader.py",
+    "holeshift/desk.py",
 ]
 
 

@@ -206,7 +206,8 @@ def kept(text):
         if isinstance(node, ast.FunctionDef) and node.name.startswith("__") and node.name != "__init__":
             for part in ast.walk(node):
                 if isinstance(part, ast.Assign) and isinstance(part.value, ast.Call):
-                    if re.search(r"^(range|zip|enumerate|reversed)$|\.(items|keys|values)$", ast.unparse(part.value.func)):
+                    called = ast.unparse(part.value.func)
+                    if re.search(r"^(range|zip|enumerate|reversed)$|\.(items|keys|values)$", called):
                         yield f"L23 line {part.lineno}"
         if isinstance(node, ast.FunctionDef) and node.name in ("items", "keys", "values"):
             yield f"L26 line {node.lineno}"
