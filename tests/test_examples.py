@@ -1,4 +1,4 @@
-"""Runs the examples of the document, under the headings that are built, and compares each answer."""
+"""Runs all examples of the document, in its order, and compares each answer."""
 
 import re
 import unittest
@@ -46,13 +46,17 @@ class TestExamples(Case):
     def test_examples(self):
         with open(DOC, encoding="utf-8") as file:
             text = file.read()
-        names = {}
+        names, many = {}, 0
         for heading in HEADINGS:
             found = examples(section(text, heading))
             self.assertGreater(len(found), 3, heading)
+            many += len(found)
             for source, wanted in found:
                 with self.subTest(heading=heading, source=source):
                     self.check(source, wanted, names)
+        self.assertEqual(many, len(re.findall("^>>> ", text, flags=re.MULTILINE)))
+        told = [heading for heading in re.findall("^## (.*)$", text, flags=re.MULTILINE) if heading in HEADINGS]
+        self.assertEqual(told, HEADINGS)
 
     def check(self, source, wanted, names):
         try:

@@ -13,7 +13,8 @@ from holeshift.menus import watches
 from holeshift.prices import Blocked, Lasting, Limited, price
 from holeshift.rows import Row
 from tests.definitions import (
-    amount, fraction, full, least, offices, one_way, one_way_back, paid, passes, prices, ring, sided, some_offices, told,
+    amount, fraction, full, least, offices, one_way, one_way_back, paid, passes, prices, ring, sided, some_offices,
+    told,
 )
 from tests.helper import Case
 from tests.test_hands import of_two
