@@ -122,16 +122,16 @@ def _say_begin(desk, gaps):
 
 def _say_enter(desk, name, amount):
     book = desk._book.twin()
-    cost = book.enter(name, amount)
+    answer = str(book.enter(name, amount))
     _keep(desk, desk._office, book)
-    return str(cost)
+    return answer
 
 
 def _say_take(desk, account, amount):
     book = desk._book.twin()
-    hole = book.take(account, amount)
+    answer = str(book.take(account, amount))
     _keep(desk, desk._office, book)
-    return str(hole)
+    return answer
 
 
 def _say_close(desk):

@@ -8,6 +8,11 @@ from holeshift.prices import price
 MOST_HANDS = 4
 
 
+def _equal(one, other):
+    """Whether two sets of hands have equal attributes."""
+    return one.hands == other.hands and one.answer == other.answer and one.less == other.less
+
+
 class Party:
     """The base class of the sets of hands, which are papers."""
 
@@ -25,9 +30,7 @@ class Party:
         return isinstance(hand, str) and hand in self.hands
 
     def __eq__(self, other):
-        if not isinstance(other, Party) or self.WORD != other.WORD or self.hands != other.hands:
-            return False
-        return self.answer == other.answer and self.less == other.less
+        return isinstance(other, Party) and self.WORD == other.WORD and _equal(self, other)
 
 
 class Band(Party):
@@ -45,9 +48,7 @@ class Band(Party):
         return isinstance(hand, str) and hand in self.hands
 
     def __eq__(self, other):
-        if not isinstance(other, Band) or self.hands != other.hands:
-            return False
-        return self.answer == other.answer and self.less == other.less
+        return isinstance(other, Band) and _equal(self, other)
 
 
 class Guard(Party):
@@ -65,9 +66,7 @@ class Guard(Party):
         return isinstance(hand, str) and hand in self.hands
 
     def __eq__(self, other):
-        if not isinstance(other, Guard) or self.hands != other.hands:
-            return False
-        return self.answer == other.answer and self.less == other.less
+        return isinstance(other, Guard) and _equal(self, other)
 
 
 def _need_few(office, bound):

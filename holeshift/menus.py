@@ -15,6 +15,11 @@ def _has_look(looks, value):
     return isinstance(value, tuple) and len(value) == 2 and is_int(value[0]) and value in looks
 
 
+def _equal(one, other):
+    """Whether two sets of looks have equal attributes."""
+    return one.looks == other.looks and one.answer == other.answer and one.less == other.less
+
+
 class Choice:
     """The base class of the sets of looks, which are papers."""
 
@@ -32,9 +37,7 @@ class Choice:
         return _has_look(self.looks, look)
 
     def __eq__(self, other):
-        if not isinstance(other, Choice) or self.WORD != other.WORD or self.looks != other.looks:
-            return False
-        return self.answer == other.answer and self.less == other.less
+        return isinstance(other, Choice) and self.WORD == other.WORD and _equal(self, other)
 
 
 class Watch(Choice):
@@ -52,9 +55,7 @@ class Watch(Choice):
         return _has_look(self.looks, look)
 
     def __eq__(self, other):
-        if not isinstance(other, Watch) or self.looks != other.looks:
-            return False
-        return self.answer == other.answer and self.less == other.less
+        return isinstance(other, Watch) and _equal(self, other)
 
 
 class Slip(Choice):
@@ -72,9 +73,7 @@ class Slip(Choice):
         return _has_look(self.looks, look)
 
     def __eq__(self, other):
-        if not isinstance(other, Slip) or self.looks != other.looks:
-            return False
-        return self.answer == other.answer and self.less == other.less
+        return isinstance(other, Slip) and _equal(self, other)
 
 
 def _ascending(office, looks):

@@ -243,6 +243,20 @@ def shows_none(office, answer, bound):
     return holds(office, answer.weights, 1, 0) and (zero or type(answer) is Limited)
 
 
+def is_least_set(parts, known, paper, office_of, shows, bound):
+    """Whether a paper's parts are an ascending tuple of known ones, and its answers show what they must.
+
+    The first of shows is asked of its answer, for the office of its parts, the second one of its less, for each part.
+    """
+    if type(parts) is not tuple or type(paper.less) is not tuple or len(parts) != len(paper.less):
+        return False
+    if not all(any(same(part, own) for own in known) for part in parts) or list(parts) != sorted(set(parts)):
+        return False
+    return shows[0](office_of(parts), paper.answer, bound) and all(
+        shows[1](office_of(parts[:at] + parts[at + 1:]), less, bound) for at, less in enumerate(paper.less)
+    )
+
+
 def ring():
     return make(2, "ab", {
         "up": Shift({"a": -1, "b": 1}, hand="bob"), "down": Shift({"a": 1, "b": -1}, hand="eve"),

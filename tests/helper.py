@@ -90,3 +90,12 @@ class Case(unittest.TestCase):
         """A class has these methods in its own body."""
         for name in names:
             self.assertIn(name, vars(owner))
+
+    def assert_alike_themselves_alone(self, papers):
+        """Each of these papers equals itself, none of the others, and no other value."""
+        for at, one in enumerate(papers):
+            for place, other in enumerate(papers):
+                self.assert_same([one == other, one != other], [at == place, at != place])
+                self.assertIs(one.__eq__(other), at == place)
+            for value in any_values():
+                self.assert_same([one == value, value == one], [False, False])

@@ -70,12 +70,7 @@ class TestPapers(Case):
             Place(), Blind(1), Blind(2), Pinned(1), Pinned(2), Blind(Gaps()), Blind(Gaps({"a": 1})), Pinned(()),
             Pinned(pairs), Pinned(pairs[:1]), Blind(None), Pinned(None),
         ]
-        for at, one in enumerate(papers):
-            for place, other in enumerate(papers):
-                self.assert_same([one == other, one != other], [at == place, at != place])
-                self.assertIs(one.__eq__(other), at == place)
-            for value in any_values():
-                self.assert_same([one == value, value == one], [False, False])
+        self.assert_alike_themselves_alone(papers)
         self.assertTrue(Blind(Gaps({"a": 1})) == Blind(Gaps({"a": Amount(1), "b": 0})))
 
     def test_pinned_multiples(self):

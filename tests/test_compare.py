@@ -154,12 +154,7 @@ class TestPapers(Case):
             Sure(1, ()), Sure(0, (("x", Amount(1)),)), Sums(()), Sums(((0, "x", ()),)), Sums(None), Sure(None, None),
             Miss(None, None, None),
         ]
-        for at, one in enumerate(papers):
-            for place, other in enumerate(papers):
-                self.assert_same([one == other, one != other], [at == place, at != place])
-                self.assertIs(one.__eq__(other), at == place)
-            for value in any_values():
-                self.assert_same([one == value, value == one], [False, False])
+        self.assert_alike_themselves_alone(papers)
         self.assertTrue(Miss(0, "x", (Gaps({"a": 0}),)) == Miss(0, "x", (Gaps(),)))
 
 

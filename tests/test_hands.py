@@ -16,10 +16,10 @@ from holeshift.prices import Blocked, Lasting, Limited, price
 from holeshift.rows import Row
 from holeshift.weights import Weights
 from tests.definitions import (
-    amount, fraction, full, make, one_way, rate_of_two, ring, shows_none, shows_plan, sided, some_offices,
+    amount, fraction, full, is_least_set, one_way, rate_of_two, ring, shows_none, shows_plan, sided, some_offices,
 )
 from tests.helper import Case, any_values, same
-from tests.variants import near, some_near
+from tests.variants import some_near
 
 HANDS = ["amy", "bob", "eve", "zoe"]
 WRONG_BOUNDS = [value for value in any_values() if value is not None and not (Amount.is_number(value) and value >= 0)]
@@ -71,23 +71,14 @@ def bounds_near(rates):
 
 
 class PartyCase(Case):
-    def office_of(self, office, party, hands):
-        return office.with_hands(*hands) if type(party) is Band else office.without_hands(*hands)
+    def office_of(self, office, owner, hands):
+        return office.with_hands(*hands) if owner is Band else office.without_hands(*hands)
 
     def is_right(self, office, owner, value, bound):
         """Whether any value is a Band or a Guard as told, added up anew, clause by clause."""
-        if type(value) is not owner or type(value.hands) is not tuple or type(value.less) is not tuple:
-            return False
-        if not all(type(hand) is str and hand in office.hands for hand in value.hands):
-            return False
-        if list(value.hands) != sorted(set(value.hands)) or len(value.less) != len(value.hands):
-            return False
         shows = [shows_plan, shows_none] if owner is Band else [shows_none, shows_plan]
-        if not shows[0](self.office_of(office, value, value.hands), value.answer, bound):
-            return False
-        return all(
-            shows[1](self.office_of(office, value, value.hands[:at] + value.hands[at + 1:]), less, bound)
-            for at, less in enumerate(value.less)
+        return type(value) is owner and is_least_set(
+            value.hands, office.hands, value, lambda hands: self.office_of(office, owner, hands), shows, bound,
         )
 
     def assert_parties(self, office, bound, rate_of=None):
@@ -115,14 +106,12 @@ class PartyCase(Case):
 
     def assert_party(self, office, party, bound):
         """The answers of a party are those of price, and show what they must."""
-        self.assertTrue(party.answer == price(self.office_of(office, party, party.hands)))
-        self.assertIs(type(party.less), tuple)
-        for at in range(len(party.hands)):
-            less = self.office_of(office, party, party.hands[:at] + party.hands[at + 1:])
-            self.assertTrue(party.less[at] == price(less))
-        self.assertTrue(self.is_right(office, type(party), party, bound))
-        shows = shows_band if type(party) is Band else shows_guard
-        other = shows_guard if type(party) is Band else shows_band
+        owner, hands = type(party), party.hands
+        self.assertTrue(party.answer == price(self.office_of(office, owner, hands)))
+        less = tuple(price(self.office_of(office, owner, hands[:at] + hands[at + 1:])) for at in range(len(hands)))
+        self.assert_same(party.less, less)
+        self.assertTrue(self.is_right(office, owner, party, bound))
+        shows, other = (shows_band, shows_guard) if owner is Band else (shows_guard, shows_band)
         self.assertIs(shows(office, party, bound=bound), True)
         self.assertIs(other(office, party, bound=bound), False)
 
@@ -158,12 +147,7 @@ class TestPapers(Case):
         told = [(("a",), answers[0], ()), (("b",), answers[0], ()), (("a",), answers[1], ()),
                 (("a",), answers[0], (answers[1],)), ((), None, None)]
         papers = [owner(*fields) for owner in (Band, Guard, Party) for fields in told]
-        for at, one in enumerate(papers):
-            for place, other in enumerate(papers):
-                self.assert_same([one == other, one != other], [at == place, at != place])
-                self.assertIs(one.__eq__(other), at == place)
-            for value in any_values():
-                self.assert_same([one == value, value == one], [False, False])
+        self.assert_alike_themselves_alone(papers)
         self.assertTrue(Band(("a",), price(ring()), ()) == Band(("a",), answers[0], ()))
 
 

@@ -3,26 +3,24 @@
 import random
 import time
 import unittest
-from fractions import Fraction
 
 from holeshift.amounts import Amount
 from holeshift.blinds import blind
 from holeshift.errors import BadBound, BadDay, NoAccount, TooMany
 from holeshift.gaps import Gaps
 from holeshift.holding import Caught, Held, Holding, held_days, hold, shows_hold
-from holeshift.items import Count, Match, Shift, Total
+from holeshift.items import Count, Match, Shift
 from holeshift.offices import Office
 from holeshift.prices import price
 from holeshift.rows import Row
-from holeshift.weights import Weights
 from tests.definitions import (
-    amount, fraction, full, gaps_of, holding_cost_of_two, is_pairs, make, offices, one_way, paid, passes, ring, sided,
+    fraction, full, holding_cost_of_two, is_pairs, make, offices, one_way, paid, passes, ring, sided,
     some_offices, told,
 )
 from tests.helper import Case, any_values, not_ints
 from tests.test_hands import of_two
 from tests.test_prices import figures
-from tests.variants import near, some_near
+from tests.variants import some_near
 
 BIG = 10 ** 30 - 1
 NO_WEIGHTS = [value for value in any_values() if not Amount.is_number(value) or value < 0] + [-1, Amount(-1, 9), True]
@@ -139,12 +137,7 @@ class TestPapers(Case):
             Holding(), Held(Amount(1), row, ()), Held(Amount(2), row, ()), Held(Amount(1), Row(till(), 2), ()),
             Held(Amount(1), row, ((0, "x"),)), Caught(()), Caught(((0, "x"),)), Caught(None), Held(None, None, None),
         ]
-        for at, one in enumerate(papers):
-            for place, other in enumerate(papers):
-                self.assert_same([one == other, one != other], [at == place, at != place])
-                self.assertIs(one.__eq__(other), at == place)
-            for value in any_values():
-                self.assert_same([one == value, value == one], [False, False])
+        self.assert_alike_themselves_alone(papers)
         self.assertTrue(Held(Amount(1), row.twin(), ()) == papers[1])
 
 

@@ -10,7 +10,9 @@ from holeshift.items import Count, Shift
 from holeshift.menus import Choice, Slip, Watch, fewest_looks, shows_slip, shows_watch, slips, watches
 from holeshift.offices import Office
 from holeshift.prices import Blocked, Lasting, Limited, price
-from tests.definitions import fraction, make, one_way, rate_of_two, ring, shows_none, shows_plan, sided, some_offices
+from tests.definitions import (
+    fraction, is_least_set, make, one_way, rate_of_two, ring, shows_none, shows_plan, sided, some_offices,
+)
 from tests.helper import Case, any_values, same
 from tests.test_hands import WRONG_BOUNDS, bounds_near, is_below, least_of, of_two, subsets_of
 from tests.variants import some_near
@@ -49,18 +51,9 @@ class MenuCase(Case):
 
     def is_right(self, office, menu, owner, value, bound):
         """Whether any value is a Watch or a Slip as told, added up anew, clause by clause."""
-        if type(value) is not owner or type(value.looks) is not tuple or type(value.less) is not tuple:
-            return False
-        if not all(any(same(look, own) for own in menu) for look in value.looks):
-            return False
-        if list(value.looks) != sorted(set(value.looks)) or len(value.less) != len(value.looks):
-            return False
         shows = [shows_none, shows_plan] if owner is Watch else [shows_plan, shows_none]
-        if not shows[0](self.office_of(office, menu, owner, value.looks), value.answer, bound):
-            return False
-        return all(
-            shows[1](self.office_of(office, menu, owner, value.looks[:at] + value.looks[at + 1:]), less, bound)
-            for at, less in enumerate(value.less)
+        return type(value) is owner and is_least_set(
+            value.looks, menu, value, lambda looks: self.office_of(office, menu, owner, looks), shows, bound,
         )
 
     def assert_choices(self, office, menu, bound, rate_of=None):
@@ -86,12 +79,11 @@ class MenuCase(Case):
         return told, other
 
     def assert_choice(self, office, menu, choice, bound):
-        owner = type(choice)
-        self.assertTrue(choice.answer == price(self.office_of(office, menu, owner, choice.looks)))
-        self.assertIs(type(choice.less), tuple)
-        for at in range(len(choice.looks)):
-            less = self.office_of(office, menu, owner, choice.looks[:at] + choice.looks[at + 1:])
-            self.assertTrue(choice.less[at] == price(less))
+        """The answers of a choice are those of price, and show what they must."""
+        owner, looks = type(choice), choice.looks
+        self.assertTrue(choice.answer == price(self.office_of(office, menu, owner, looks)))
+        offices = [self.office_of(office, menu, owner, looks[:at] + looks[at + 1:]) for at in range(len(looks))]
+        self.assert_same(choice.less, tuple(price(one) for one in offices))
         self.assertTrue(self.is_right(office, menu, owner, choice, bound))
         shows, other = (shows_watch, shows_slip) if owner is Watch else (shows_slip, shows_watch)
         self.assertIs(shows(office, menu, choice, bound=bound), True)
@@ -133,12 +125,7 @@ class TestPapers(Case):
         told = [(((0, "x"),), answers[0], ()), (((1, "x"),), answers[0], ()), (((0, "x"),), answers[1], ()),
                 (((0, "x"),), answers[0], (answers[1],)), ((), None, None)]
         papers = [owner(*fields) for owner in (Watch, Slip, Choice) for fields in told]
-        for at, one in enumerate(papers):
-            for place, other in enumerate(papers):
-                self.assert_same([one == other, one != other], [at == place, at != place])
-                self.assertIs(one.__eq__(other), at == place)
-            for value in any_values():
-                self.assert_same([one == value, value == one], [False, False])
+        self.assert_alike_themselves_alone(papers)
 
 
 class TestChoices(MenuCase):

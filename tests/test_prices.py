@@ -56,12 +56,7 @@ class TestPapers(Case):
             Blocked(Weights(1, 2)), Limited(Weights(2, 2)), Lasting(Amount(1, 2), Gaps(), Row(ring()), Weights((), ())),
             Lasting(Amount(1, 2), Gaps(), Row(ring(), 1), Weights((), ())), Limited(None), Blocked(None),
         ]
-        for at, one in enumerate(papers):
-            for place, other in enumerate(papers):
-                self.assert_same([one == other, one != other], [at == place, at != place])
-                self.assertIs(one.__eq__(other), at == place)
-            for value in any_values():
-                self.assert_same([one == value, value == one], [False, False])
+        self.assert_alike_themselves_alone(papers)
         for work in (
             lambda: Answer((1,)), lambda: Limited((1,)), lambda: Blocked((1,)), lambda: Lasting(1, (2,), [], ""),
         ):
