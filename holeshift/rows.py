@@ -45,10 +45,9 @@ def _need_setting(office, days, day, kind, number):
 
 def _amounts_told(office, days, shifts):
     """The dict from (day, kind) to the amounts above 0 of these shifts, each set behind the other."""
-    found = {}
     for day, kind, number in shifts:
         _need_setting(office, days, day, kind, number)
-        found[(day, kind)] = Amount.of(number)
+    found = {(day, kind): Amount.of(number) for day, kind, number in shifts}
     return {at: amount for at, amount in found.items() if amount != 0}
 
 

@@ -228,6 +228,29 @@ def names(text):
             yield f"L15, L17 {own}"
 
 
+def shadows(text):
+    """L15: no parameter, local variable or nested function has the name of a class or an import of its file."""
+    tree = ast.parse(text)
+    known = {name.asname or name.name for node in tree.body if isinstance(node, ast.ImportFrom) for name in node.names}
+    known |= {node.name for node in tree.body if isinstance(node, ast.ClassDef)}
+    for node in ast.walk(tree):
+        local = isinstance(node, ast.Name) and isinstance(node.ctx, ast.Store) and node.id
+        own = local or isinstance(node, ast.arg) and node.arg or isinstance(node, ast.ExceptHandler) and node.name
+        if own in known:
+            yield f"L15 line {node.lineno}: {own}"
+
+
+def lambdas(text):
+    """L13: no two lambdas whose parameters have the same names on one line; no default values in them."""
+    lines = {}
+    for node in ast.walk(ast.parse(text)):
+        if isinstance(node, ast.Lambda):
+            names = (node.lineno, *[arg.arg for arg in node.args.args])
+            if names in lines or node.args.defaults:
+                yield f"L13 line {node.lineno}"
+            lines[names] = True
+
+
 def errors_caught(text):
     """L19: handlers name own errors or a few of Python's; what is raised is created on the spot."""
     for node in ast.walk(ast.parse(text)):
@@ -268,7 +291,8 @@ def python_warnings(text):
 
 
 CHECKS = [
-    sizes, imports, module_level, classes, statements, orders, kept, names, errors_caught, strings, python_warnings,
+    sizes, imports, module_level, classes, statements, orders, kept, names, shadows, lambdas, errors_caught, strings,
+    python_warnings,
 ]
 
 
@@ -324,6 +348,9 @@ class TestLanguage(unittest.TestCase):
             kept: ["def __mul__(self, other):\n    xs = range(3)", "def __eq__(self, other):\n    xs = d.items()",
                    "def values(self):\n    pass"],
             names: ["def type():\n    pass", "def f(max):\n    pass", "__x = 1", "law = 1"],
+            shadows: ["from a import b\ndef f(b):\n    pass", "from a import b\ndef f():\n    return [b for b in ()]",
+                      "class A:\n    pass\ndef f():\n    for A in ():\n        pass"],
+            lambdas: ["f(lambda x: x, lambda x: 1)", "f(lambda x=1: x)"],
             errors_caught: ["try:\n    pass\nexcept TypeError:\n    pass", "try:\n    pass\nexcept:\n    pass",
                             "raise x", "raise a.b()"],
             strings: ["x = 'a % b'", "x = '\\x41'", "x = 'the type'", "x = 2 ** 65", "x = '__x__'"],

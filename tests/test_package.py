@@ -76,6 +76,21 @@ def without_setter(package):
                 yield f"{owner}.{name}"
 
 
+def generators_twice(package):
+    """L23: a name of a generator that another function or method has, or a parameter or local variable."""
+    found = [node for at in package.functions.values() for _, node in at]
+    found += [node for at in package.methods.values() for _, _, node in at]
+    kinds = (ast.Yield, ast.YieldFrom)
+    yields = {node.name for node in found if any(isinstance(part, kinds) for part in ast.walk(node))}
+    for node in found:
+        if node.name in yields and sum(other.name == node.name for other in found) > 1:
+            yield node.name
+        for part in ast.walk(node):
+            if isinstance(part, ast.Call) and isinstance(part.func, ast.Name) and part.func.id in assigned(node):
+                if part.func.id in yields:
+                    yield f"{node.name}: {part.func.id}"
+
+
 def roots(package):
     """The operators and properties."""
     for found in package.properties.values():
@@ -196,6 +211,8 @@ class Reached:
 
 SAMPLES = [
     (twice, "class A:\n    def f(self):\n        pass\nclass B:\n    def __init__(self):\n        self.f = 1"),
+    (generators_twice, "def f():\n    yield 1\nclass A:\n    def f(self):\n        pass"),
+    (generators_twice, "def f():\n    yield 1\ndef g(f):\n    f()"),
     (without_setter, "class A:\n    @property\n    def f(self):\n        pass\ndef g(x):\n    x.f = 1"),
 ]
 # Operators that change or call something, each through something else.
@@ -229,6 +246,7 @@ class TestPackage(unittest.TestCase):
     def test_package(self):
         package = Package({path: read(path) for path in python_files()})
         self.assertEqual([list(twice(package)), list(without_setter(package))], [[], []])
+        self.assertEqual(list(generators_twice(package)), [])
         self.assertEqual(Reached(package).wrong, [])
 
     def test_breaches_are_found(self):
