@@ -43,15 +43,15 @@ class Arranged:
 
     def __init__(self, days, items):
         ascending = sorted([str(name) for name in items])
+        kinds = [(name, items[name].days) for name in ascending if isinstance(items[name], Shift)]
+        checks = [(name, items[name].days) for name in ascending if isinstance(items[name], Check)]
         self.by_name = {name: items[name] for name in ascending}
-        self.all_kinds = tuple([name for name in ascending if isinstance(items[name], Shift)])
-        self.all_checks = tuple([name for name in ascending if isinstance(items[name], Check)])
+        self.all_kinds = tuple([name for name, _ in kinds])
+        self.all_checks = tuple([name for name, _ in checks])
         self.kinds_by_day = [
-            tuple([name for name in self.all_kinds if items[name].falls_on(day)]) for day in range(days)
+            tuple([name for name, own in kinds if not own or day in own]) for day in range(days)
         ]
-        self.looks_by_day = [
-            tuple([name for name in self.all_checks if items[name].falls_on(day)]) for day in range(days)
-        ]
+        self.looks_by_day = [tuple([name for name, own in checks if day in own]) for day in range(days)]
 
 
 def _arrange(days, items):
