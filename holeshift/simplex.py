@@ -1,51 +1,62 @@
 """Least costs under equations, by the simplex method in whole numbers."""
 
+from math import gcd
+
 from holeshift.amounts import Amount
 
 
-def _without(row, lead, column, bottom):
-    """A row times the lead's number in this column, less so much of the lead that its own number there becomes 0."""
-    times, less = lead[column], row[column]
-    if less == 0 and times == bottom:
+def _lowest(row):
+    """A row divided by the greatest integer that divides all its numbers."""
+    shared = 0
+    for number in row:
+        shared = gcd(shared, number)
+        if shared == 1:
+            return row
+    return [number // shared for number in row]
+
+
+def _without(row, lead, column):
+    """A row times an integer above 0, less so much of the lead that its number in this column becomes 0.
+
+    The lead's number there is above 0.
+    """
+    if row[column] == 0:
         return row
-    # All numbers are minors of the first rows, so nothing is left over.
-    return [(times * one - less * other) // bottom for one, other in zip(row, lead)]
+    shared = gcd(row[column], lead[column])
+    times, less = lead[column] // shared, row[column] // shared
+    return _lowest([times * one - less * other for one, other in zip(row, lead)])
 
 
 class Tableau:
-    """Equations of numbers from 0 on, all times one bottom, solved for the numbers of a basis.
+    """Equations of numbers from 0 on, each times some integer above 0, solved for the numbers of a basis.
 
-    Each row has the numbers of the columns, then those of one further column for each row, then its right side. The
-    further columns are made first; an answer has none of them, and they tell the multipliers of the rows.
+    Each row has the numbers of the columns, then those of one further column for each row, then its right side, then a
+    0. The further columns are made first; an answer has none of them, and they tell the multipliers of the rows. The
+    aims, what is apart and the costs, are such rows, too; the last number of each is what all of it is times.
     """
 
     def __init__(self, rows, right, costs):
         self.wide = len(costs)
-        self.bottom = 1
         self.signs = [-1 if number < 0 else 1 for number in right]
         places = range(len(right))
         units = [[1 if place == other else 0 for other in places] for place in places]
         self.rows = [
-            [*[sign * number for number in row], *unit, sign * last]
+            [*[sign * number for number in row], *unit, sign * last, 0]
             for row, unit, sign, last in zip(rows, units, self.signs, right)
         ]
         self.basis = [self.wide + place for place in places]
         apart = [-sum([row[column] for row in self.rows]) for column in range(self.wide)]
-        self.apart = [*apart, *[0 for _ in places], -sum([row[-1] for row in self.rows])]
-        self.costs = [*costs, *[0 for _ in places], 0]
+        self.apart = [*apart, *[0 for _ in places], -sum([row[-2] for row in self.rows]), 1]
+        self.costs = [*costs, *[0 for _ in places], 0, 1]
 
     def pivot(self, at, column):
         """Take a column into the basis, in the place of the one of this row."""
         lead = self.rows[at]
         if lead[column] < 0:
             lead = [-number for number in lead]
-        bottom = self.bottom
-        self.rows = [
-            lead if place == at else _without(row, lead, column, bottom) for place, row in enumerate(self.rows)
-        ]
-        self.apart = _without(self.apart, lead, column, bottom)
-        self.costs = _without(self.costs, lead, column, bottom)
-        self.bottom = lead[column]
+        self.rows = [lead if place == at else _without(row, lead, column) for place, row in enumerate(self.rows)]
+        self.apart = _without(self.apart, lead, column)
+        self.costs = _without(self.costs, lead, column)
         self.basis[at] = column
 
     def leaving(self, column):
@@ -58,7 +69,7 @@ class Tableau:
                 found = at
                 continue
             best = self.rows[found]
-            ahead = row[-1] * best[column] - best[-1] * row[column]
+            ahead = row[-2] * best[column] - best[-2] * row[column]
             # The least column of several leaves, as otherwise the same bases could come round for ever.
             if ahead < 0 or ahead == 0 and self.basis[at] < self.basis[found]:
                 found = at
@@ -83,7 +94,7 @@ class Tableau:
             if column is None:
                 return
             at = self.leaving(column)
-            idle = idle + 1 if self.rows[at][-1] == 0 else 0
+            idle = idle + 1 if self.rows[at][-2] == 0 else 0
             self.pivot(at, column)
 
     def settle(self):
@@ -96,15 +107,15 @@ class Tableau:
     def solution(self):
         """The number of each column."""
         found = [Amount(0) for _ in range(self.wide)]
-        for at, column in enumerate(self.basis):
+        for row, column in zip(self.rows, self.basis):
             if column < self.wide:
-                found[column] = Amount(self.rows[at][-1], self.bottom)
+                found[column] = Amount(row[-2], row[column])
         return found
 
     def multipliers(self, aim, own):
-        """The multiplier of each row, by a row of aims whose further columns cost this at first."""
-        further = aim[self.wide:-1]
-        return [Amount(sign * (own * self.bottom - number), self.bottom) for sign, number in zip(self.signs, further)]
+        """The multiplier of each row, by an aim whose further columns cost this at first."""
+        further = aim[self.wide:-2]
+        return [Amount(sign * (own * aim[-1] - number), aim[-1]) for sign, number in zip(self.signs, further)]
 
 
 def least_costs(rows, right, costs):
@@ -116,8 +127,8 @@ def least_costs(rows, right, costs):
     """
     tableau = Tableau(rows, right, costs)
     tableau.descend(False)
-    if tableau.apart[-1] != 0:
-        apart = Amount(-tableau.apart[-1], tableau.bottom)
+    if tableau.apart[-2] != 0:
+        apart = Amount(-tableau.apart[-2], tableau.apart[-1])
         return None, [number.over(apart) for number in tableau.multipliers(tableau.apart, 1)]
     tableau.settle()
     tableau.descend(True)
