@@ -215,6 +215,9 @@ class TestMisses(Case):
             (Office(1, "a", "b"), make(1, "ab", {"q": Match(["a"], ["b"], 0)})), (Office(1, "a", "b", "c", "d"), make(
                 1, "abcd", {"q": Match(["b"], ["a"], 0)})), (Office(1, "a", "b"), make(1, "ab", {"q": Count("a", 0)})),
             (Office(1, "a", "b"), make(1, "ab", {"q": Count("b", 0)})),
+            # Here the look sees -1 of the blind place, and 1 of gaps without a hole: 0 of both together.
+            (make(1, "abcd", {"t": Total(["b", "d"], 0)}), make(1, "abcd", {"q": Match(["b"], ["c"], 0)})),
+            (make(1, "abcd", {"t": Total(["c", "d"], 0)}), make(1, "abcd", {"q": Match(["c"], ["a"], 0)})),
         ):
             self.assertIs(type(self.assert_misses(one, other)), Miss)
 

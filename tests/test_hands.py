@@ -307,6 +307,15 @@ class TestWrongInputs(PartyCase):
                     self.assertIs(shows(office, wrong), False)
                     self.assertIs(shows(office, wrong, bound=3), False)
 
+    def test_hands_in_another_order(self):
+        crew = ring()
+        crew["rise"] = Shift({"a": -1, "b": 1}, weight=5, hand="zoe")
+        band, guard = bands(crew)[0], guards(crew)[1]
+        self.assertEqual([band.hands, guard.hands], [("bob", "eve"), ("bob", "zoe")])
+        for party, shows in ((band, shows_band), (guard, shows_guard)):
+            turned = type(party)(party.hands[::-1], party.answer, party.less[::-1])
+            self.assert_same([shows(crew, party), shows(crew, turned)], [True, False])
+
     def test_papers_near(self):
         chance, right = random.Random(45), 0
         for office in [ring(), sided()] + [of_two(chance) for _ in range(12)]:

@@ -289,6 +289,19 @@ class TestWrongInputs(MenuCase):
                         right += wanted
         self.assertGreater(right, 50)
 
+    def test_looks_in_another_order(self):
+        office, menu = ring(), [(1, "seea"), (0, "seeb")]
+        three = make(3, "ab", {
+            "up": Shift({"a": -1, "b": 1}), "down": Shift({"a": 1, "b": -1}), "a": Count("a", 0), "b": Count("b", 1),
+        })
+        looks = [(2, "a"), (2, "b")]
+        for one, told, choice, shows in (
+            (office, menu, slips(office, menu)[0], shows_slip), (three, looks, watches(three, looks)[0], shows_watch),
+        ):
+            self.assertEqual(len(choice), 2)
+            turned = type(choice)(choice.looks[::-1], choice.answer, choice.less[::-1])
+            self.assert_same([shows(one, told, choice), shows(one, told, turned)], [True, False])
+
     def test_looks_of_other_kinds(self):
         office, menu = ring(), [(1, "seea"), (0, "seeb")]
         watch = watches(office, menu)[1]
